@@ -1,0 +1,1 @@
+"""Eachstepsame: a chain of forms of one program, each of which does the same."""
