@@ -1,6 +1,10 @@
-"""What several tests need: things of every kind, and a telling apart of 1 from True."""
+"""What several tests need: things of every kind, 1 told apart from True, trees, programs by chance, and codes."""
 
 from itertools import product
+from random import Random
+
+from eachstepsame.blocks import Back, Block, Branch, Code, Function, Jump, Raise, Risk, Row
+from eachstepsame.errors import StepError
 
 NUM = ("num",)
 TRUTH = ("truth",)
@@ -45,3 +49,327 @@ def things():
 def shown(thing):
     """A text that is equal just where things are the same ones, 1 and True or a list and a tuple apart."""
     return repr(thing)
+
+
+def refusal(asked, *handed):
+    """The class of the refusal that comes, by its name, with its fields in order; None where none comes."""
+    try:
+        asked(*handed)
+    except StepError as error:
+        return (error.__class__.__name__,) + tuple(vars(error).values())
+    return None
+
+
+def num(value):
+    return ("num", value)
+
+
+def name(text):
+    return ("name", text)
+
+
+def two(op, one, other):
+    return ("two", op, one, other)
+
+
+def one(op, part):
+    return ("one", op, part)
+
+
+def call(function, *parts):
+    return ("call", function, parts)
+
+
+def new(record, *parts):
+    return ("new", record, parts)
+
+
+def row(*parts):
+    return ("row", parts)
+
+
+def field(whole, text):
+    return ("field", whole, text)
+
+
+def index(whole, place):
+    return ("index", whole, place)
+
+
+def let(text, value):
+    return ("let", text, value)
+
+
+def put(text, value):
+    return ("set", text, value)
+
+
+def setat(text, place, value):
+    return ("setat", text, place, value)
+
+
+def setfield(text, part, value):
+    return ("setfield", text, part, value)
+
+
+def choice(test, yes, no=()):
+    return ("if", test, tuple(yes), tuple(no))
+
+
+def loop(test, *rows):
+    return ("while", test, rows)
+
+
+def log(value):
+    return ("log", value)
+
+
+def do(value):
+    return ("do", value)
+
+
+def back(value):
+    return ("return", value)
+
+
+def fails(fault):
+    return ("raise", fault)
+
+
+def trying(rows, *catches):
+    return ("try", tuple(rows), tuple((fault, tuple(caught)) for fault, caught in catches))
+
+
+def fun(text, takes, gives, *rows):
+    return ("fun", text, tuple(takes), gives, rows)
+
+
+def main(*rows):
+    """A program of a main alone, which takes nothing and gives a number."""
+    return ((), (fun("main", [], NUM, *rows),))
+
+
+YES, NO = ("truth", True), ("truth", False)
+
+
+def below(node):
+    """The nodes right beneath a node, told anew: whatever in it begins with the word of an expression or a row."""
+    word, rest = node[0], node[1:]
+    if word in ("num", "truth", "name", "raise"):
+        return []
+    if word == "try":
+        return list(rest[0]) + [part for catch in rest[1] for part in catch[1]]
+    if word == "fun":
+        return list(rest[3])
+    found = []
+    for part in rest:
+        if isinstance(part, tuple):
+            found.extend([part] if part and isinstance(part[0], str) else part)
+    return found
+
+
+def nodes(program):
+    """All nodes of a program in the order of their numbers."""
+    found = list(program[0])
+    waiting = list(reversed(program[1]))
+    while waiting:
+        node = waiting.pop()
+        found.append(node)
+        waiting.extend(reversed(below(node)))
+    return found
+
+
+def place_of(program, node):
+    found = [place for place, other in enumerate(nodes(program)) if shown(other) == shown(node)]
+    if len(found) != 1:
+        raise AssertionError(f"{node} stands at {found}")
+    return found[0]
+
+
+class Sower:
+    """Programs that are let by, by chance but the same for the same seed."""
+
+    def __init__(self, seed, size=40):
+        self.chance = Random(seed)
+        self.left = size
+        self.records = [("r" + letter, self.some_fields()) for letter in "abc"[:self.chance.randrange(4)]]
+        self.kinds = [NUM, NUM, TRUTH, ("row", 1), ("row", 3)] + [("named", record[0]) for record in self.records]
+        texts = ["main"] + ["f" + letter for letter in "abc"[:self.chance.randrange(4)]]
+        self.chance.shuffle(texts)
+        self.heads = [(text, self.some_takes(), self.chance.choice(self.kinds)) for text in texts]
+
+    def program(self):
+        functions = []
+        for text, takes, gives in self.heads:
+            self.gives, self.fresh = gives, 0
+            rows = self.rows(dict(takes), 3, self.chance.randrange(1, 6))
+            if self.chance.random() < 0.8:
+                rows += (back(self.expression(gives, dict(takes), 2)),)
+            functions.append(fun(text, takes, gives, *rows))
+        return (tuple(self.records), tuple(functions))
+
+    def some_fields(self):
+        return tuple((letter, self.chance.choice([NUM, TRUTH])) for letter in "pqrs"[:self.chance.randrange(1, 5)])
+
+    def some_takes(self):
+        return tuple((letter, self.chance.choice(self.kinds)) for letter in "abcd"[:self.chance.randrange(5)])
+
+    def value(self, kind):
+        """A value of a kind as the tree tells kinds."""
+        if kind == NUM:
+            return self.chance.choice([0, 1, 2, 3, -4, 10 ** 20])
+        if kind == TRUTH:
+            return self.chance.random() < 0.5
+        if kind[0] == "row":
+            return tuple(self.value(NUM) for place in range(kind[1]))
+        return tuple(self.value(part) for text, part in dict(self.records)[kind[1]])
+
+    def expression(self, kind, there, depth):
+        self.left -= 1
+        locals_fit = [text for text, other in there.items() if other == kind]
+        if locals_fit and (self.chance.random() < 0.4 or depth < 1):
+            return name(self.chance.choice(locals_fit))
+        if depth > 0 and self.left > 0:
+            calls = [head for head in self.heads if head[2] == kind]
+            if calls and self.chance.random() < 0.25:
+                head = self.chance.choice(calls)
+                return call(head[0], *[self.expression(part, there, depth - 1) for text, part in head[1]])
+            return self.deep(kind, there, depth - 1)
+        return self.flat(kind)
+
+    def flat(self, kind):
+        if kind == NUM:
+            return num(self.chance.choice([0, 0, 1, 2, 3, 10 ** 20 - 1]))
+        if kind == TRUTH:
+            return self.chance.choice([YES, NO])
+        if kind[0] == "row":
+            return row(*[self.flat(NUM) for place in range(kind[1])])
+        return new(kind[1], *[self.flat(part) for text, part in dict(self.records)[kind[1]]])
+
+    def deep(self, kind, there, depth):
+        fields = [(record, text) for record, parts in self.records for text, part in parts if part == kind]
+        if fields and self.chance.random() < 0.3:
+            record, text = self.chance.choice(fields)
+            return field(self.expression(("named", record), there, depth), text)
+        if kind[0] == "row":
+            return row(*[self.expression(NUM, there, depth) for place in range(kind[1])])
+        if kind[0] == "named":
+            return new(kind[1], *[self.expression(part, there, depth) for text, part in dict(self.records)[kind[1]]])
+        pick = self.chance.choice
+        if kind == TRUTH:
+            op = pick(["<", "=", "and", "or", "not"])
+            part = NUM if op in "<=" else TRUTH
+            if op == "not":
+                return one(op, self.expression(part, there, depth))
+            return two(op, self.expression(part, there, depth), self.expression(part, there, depth))
+        op = pick(["+", "-", "*", "/", "mod", "neg", "index", "index"])
+        if op == "neg":
+            return one("-", self.expression(NUM, there, depth))
+        if op == "index":
+            return index(self.expression(pick([("row", 1), ("row", 3)]), there, depth), num(pick([0, 0, 1, 2])))
+        return two(op, self.expression(NUM, there, depth), self.expression(NUM, there, depth))
+
+    def rows(self, there, depth, count):
+        there, found = dict(there), []
+        while count > 0 and self.left > 0:
+            found.append(self.row(there, depth))
+            count -= 1
+        return tuple(found)
+
+    def row(self, there, depth):
+        self.left -= 1
+        sort = self.chance.choice(["let", "let", "let", "set", "set", "part", "part", "if", "while", "log", "log", "do",
+                                   "return", "raise", "try", "try"])
+        if sort in ("if", "while", "try") and depth > 0:
+            return self.wide(sort, there, depth - 1)
+        if sort in ("set", "part") and there:
+            text = self.chance.choice(sorted(there))
+            return self.changed(sort, text, there)
+        if sort == "log":
+            return log(self.expression(self.chance.choice([NUM, TRUTH]), there, 2))
+        if sort == "do":
+            return do(self.expression(self.chance.choice(self.kinds), there, 2))
+        if sort == "return" and self.chance.random() < 0.4:
+            return back(self.expression(self.gives, there, 2))
+        if sort == "raise" and self.chance.random() < 0.4:
+            return fails(self.chance.choice(["zero", "end", "oops"]))
+        self.fresh += 1
+        text, kind = "x" + "abcdefghijklmnopqrstuvwxyz"[self.fresh % 26] * (1 + self.fresh // 26), NUM
+        if self.chance.random() < 0.5:
+            kind = self.chance.choice(self.kinds)
+        made = let(text, self.expression(kind, there, 2))
+        there[text] = kind
+        return made
+
+    def changed(self, sort, text, there):
+        kind = there[text]
+        if sort == "part" and kind[0] == "row":
+            return setat(text, num(self.chance.choice([0, 0, 1, 2, 3])), self.expression(NUM, there, 2))
+        if sort == "part" and kind[0] == "named":
+            part = self.chance.choice(dict(self.records)[kind[1]])
+            return setfield(text, part[0], self.expression(part[1], there, 2))
+        return put(text, self.expression(kind, there, 2))
+
+    def wide(self, sort, there, depth):
+        some = [self.rows(there, depth, self.chance.randrange(4)) for side in range(3)]
+        if sort == "if":
+            return choice(self.expression(TRUTH, there, 2), some[0], some[1])
+        if sort == "while":
+            return loop(self.expression(TRUTH, there, 2), *some[0])
+        faults = self.chance.sample(["zero", "range", "great", "end", "oops"], self.chance.randrange(1, 4))
+        return trying(some[0], *zip(faults, [some[1], some[2], some[1]]))
+
+
+def n(number):
+    return ("name", number)
+
+
+FLAG = ("record", (TRUTH, NUM))
+TICK = Row(None, "tick", None, ())
+
+
+def sample_main():
+    """All five ends, a loop, params, results, catches and a call."""
+    kinds = {number: NUM for number in [0, 2, 3, 5, 6, 7, 8, 9, 11]}
+    kinds.update({1: TRUTH, 4: TRUTH, 10: FLAG})
+    return Function((NUM, TRUTH), NUM, kinds, [
+        Block((0, 1), [Row(2, "add", None, [n(0), num(1)])], Branch(n(1), (1, (n(2),)), (5, ()))),
+        Block((3,), [TICK, Row(4, "less", None, [n(3), num(10)])], Branch(n(4), (2, ()), (4, (n(3),)))),
+        Block((), [Row(None, "log", None, [n(3)]), Row(5, "sub", None, [n(3), n(0)])],
+              Risk("div", None, [n(5), n(2)], (3, (num(7),)), [("zero", (4, (num(0),)))])),
+        Block((6, 7), [Row(8, "add", None, [n(6), n(7)])], Jump((1, (n(8),)))),
+        Block((9,), [], Back(n(9))),
+        Block((), [], Risk("call", "f", [n(2)], (6, ()), [("oops", (7, ())), ("end", (7, ()))])),
+        Block((10,), [Row(11, "get", 1, [n(10)])], Jump((4, (n(11),)))),
+        Block((), [], Raise("oops")),
+    ])
+
+
+def sample_code():
+    f = Function((NUM,), FLAG, {0: NUM, 1: FLAG, 2: FLAG, 3: ("row", 2), 4: ("row", 2)}, [
+        Block((0,), [Row(1, "make", FLAG, [YES, n(0)]), Row(2, "put", 0, [n(1), NO])],
+              Risk("call", "g", [n(0)], (1, ()), [])),
+        Block((3,), [], Risk("lay", None, [n(3), num(0), n(0)], (2, ()), [("range", (3, ()))])),
+        Block((4,), [], Back(n(2))),
+        Block((), [], Back(n(1))),
+    ])
+    g = Function((NUM,), ("row", 2), {5: NUM, 6: ("row", 2), 7: ("row", 2)}, [
+        Block((5,), [Row(6, "make", ("row", 2), [n(5), num(1)]), Row(7, "copy", None, [n(6)]),
+                     Row(None, "log", None, [YES])], Back(n(7))),
+    ])
+    return Code({"main": sample_main(), "g": g, "f": f})
+
+
+def graph(*ways):
+    """A function of blocks with just these edges; each has a tick row, so that rounds are well made."""
+    blocks = []
+    for followers in ways:
+        if len(followers) > 2:
+            end = Risk("call", "main", [], (followers[0], ()), [
+                ("f" + "abcdefgh"[place], (other, ())) for place, other in enumerate(followers[1:])])
+        elif len(followers) == 2:
+            end = Branch(YES, (followers[0], ()), (followers[1], ()))
+        else:
+            end = Jump((followers[0], ())) if followers else Raise("oops")
+        blocks.append(Block((), [TICK], end))
+    return Function((), NUM, {}, blocks)

@@ -1,0 +1,28 @@
+"""How a run of any form begins, and what it tells."""
+
+from eachstepsame.errors import NoBudget, NoInput
+from eachstepsame.kinds import is_value, is_whole
+
+
+class Run:
+    def __init__(self, ending, thing, log, took, steps):
+        self.ending = ending
+        self.thing = thing
+        self.log = list(log)
+        # The field is a list that its reader may empty; what is seen of the run stays.
+        self.kept_log = tuple(log)
+        self.took = took
+        self.steps = steps
+
+    def seen(self):
+        return (self.ending, self.thing, self.kept_log, self.took)
+
+
+def need_start(kinds, inputs, budget):
+    if not isinstance(inputs, list) or len(inputs) != len(kinds):
+        raise NoInput(None)
+    for place, kind in enumerate(kinds):
+        if not is_value(inputs[place], kind):
+            raise NoInput(place)
+    if not is_whole(budget) or not 0 <= budget <= 10000:
+        raise NoBudget()
