@@ -161,6 +161,13 @@ class Function:
     def kind_of(self, name):
         return self.kept_kinds.get(name)
 
+    # The same function with other blocks, and with kinds of just the names that these give.
+    def with_blocks(self, blocks):
+        names = []
+        for block in blocks:
+            names.extend(block.given())
+        return Function(self.takes, self.gives, self.kinds_of(names), blocks)
+
     # A dict of the kinds of just these names, of those of them that have one.
     def kinds_of(self, names):
         return dict([(name, self.kept_kinds[name]) for name in names if name in self.kept_kinds])

@@ -1,10 +1,10 @@
 """What is well made in the form of blocks, and what its graphs tell."""
 
-from eachstepsame.blocks import Back, Block, Branch, Function, Risk
+from eachstepsame.blocks import Back, Block, Branch, Risk
 from eachstepsame.errors import NoCode
 from eachstepsame.kinds import NUM, TRUTH, is_constant, is_whole
 from eachstepsame.ops import is_pure, is_risky, result_kind
-from eachstepsame.ways import gone_through, nearest_rulers, on_rounds, ruled_spans
+from eachstepsame.ways import gone_through, nearest_rulers, on_rounds, ruled_spans, spans_rule
 
 
 def followers(function, number):
@@ -19,6 +19,11 @@ def reached(function):
     if len(function.blocks) == 0:
         return []
     return sorted(gone_through(ways_of(function), 0, {}))
+
+
+# The blocks to which one comes from block 0, each behind those that rule it.
+def rulers_first(function):
+    return gone_through(ways_of(function), 0, {})[::-1]
 
 
 def rulers(function):
@@ -45,13 +50,9 @@ def given_in(function):
 def closed_up(function):
     left = reached(function)
     numbers = dict([(number, place) for place, number in enumerate(left)])
-    blocks = []
-    names = []
-    for number in left:
-        block = function.blocks[number]
-        blocks.append(Block(block.params, block.rows, block.end.moved({}, numbers)))
-        names.extend(block.given())
-    return (Function(function.takes, function.gives, function.kinds_of(names), blocks), numbers)
+    kept = [function.blocks[number] for number in left]
+    blocks = [Block(block.params, block.rows, block.end.moved({}, numbers)) for block in kept]
+    return (function.with_blocks(blocks), numbers)
 
 
 def operand_kind(function, operand):
@@ -198,12 +199,7 @@ class Look:
 
     def given_above(self, name, number):
         giver = self.givers.get(name)
-        return giver is not None and giver != number and self.rules(giver, number)
-
-    def rules(self, number, other):
-        if number not in self.spans:
-            return False
-        return self.spans[number][0] <= self.spans[other][0] < self.spans[number][1]
+        return giver is not None and giver != number and spans_rule(self.spans, giver, number)
 
 
 # The graph without all edges from or to a block that has a tick row.

@@ -1,7 +1,7 @@
 """How a run of any form begins, and what it tells."""
 
 from eachstepsame.errors import NoBudget, NoInput
-from eachstepsame.kinds import is_value, is_whole
+from eachstepsame.kinds import is_value, is_whole, tagged
 
 
 class Run:
@@ -16,6 +16,38 @@ class Run:
 
     def seen(self):
         return (self.ending, self.thing, self.kept_log, self.took)
+
+
+# A run that goes on, of whatever form: what it has taken and told until now, and how it ended once it has.
+class Going:
+    def __init__(self, budget):
+        self.budget = budget
+        self.log = []
+        self.took = 0
+        self.steps = 0
+        self.ending = None
+        self.thing = None
+
+    def takes_tick(self):
+        if self.took == self.budget:
+            self.ending = "dry"
+            return False
+        self.took += 1
+        return True
+
+    def write(self, value):
+        self.log.append(tagged(value))
+
+    def answer(self, value):
+        self.ending = "answer"
+        self.thing = tagged(value)
+
+    def fail(self, fault):
+        self.ending = "fault"
+        self.thing = fault
+
+    def ended(self):
+        return Run(self.ending, self.thing, self.log, self.took, self.steps)
 
 
 def need_start(kinds, inputs, budget):

@@ -1,9 +1,8 @@
 """The runner of the source: a typed tree is run, with a pile of its own for calls and for what is still to be done."""
 
 from eachstepsame.errors import Fault
-from eachstepsame.kinds import tagged
 from eachstepsame.ops import reckoned
-from eachstepsame.runs import Run, need_start
+from eachstepsame.runs import Going, need_start
 from eachstepsame.trees import parts_in
 
 # Of the tasks that wait in a frame some are nodes, which are still to be begun; the others go on with one whose parts
@@ -21,7 +20,7 @@ def run_source(typed, inputs, budget):
     runner.begin("main", inputs)
     while runner.ending is None:
         runner.go_on()
-    return Run(runner.ending, runner.thing, runner.log, runner.took, runner.steps)
+    return runner.ended()
 
 
 def source_width(typed):
@@ -73,16 +72,11 @@ class Frame:
         return None
 
 
-class Runner:
+class Runner(Going):
     def __init__(self, typed, budget):
+        Going.__init__(self, budget)
         self.program = typed
-        self.budget = budget
         self.frames = []
-        self.log = []
-        self.took = 0
-        self.steps = 0
-        self.ending = None
-        self.thing = None
 
     def begin(self, name, given):
         function = self.program.function_named(name)
@@ -150,7 +144,7 @@ class Runner:
         elif word == "loop" and value:
             frame.wait_for(("ask", task[1]), (("rows", task[1][2], 0),))
         elif word == "write":
-            self.log.append(tagged(value))
+            self.write(value)
         elif word == "leave":
             self.leave(value)
 
@@ -170,18 +164,10 @@ class Runner:
         if self.takes_tick():
             frame.wait_for(("loop", node), (node[1],))
 
-    def takes_tick(self):
-        if self.took == self.budget:
-            self.ending = "dry"
-            return False
-        self.took += 1
-        return True
-
     def leave(self, value):
         self.frames.pop()
         if len(self.frames) == 0:
-            self.ending = "answer"
-            self.thing = tagged(value)
+            self.answer(value)
         else:
             self.frames[-1].reckoned_parts.append(value)
 
@@ -192,8 +178,7 @@ class Runner:
                 self.frames[-1].waiting.append(("rows", rows, 0))
                 return
             self.frames.pop()
-        self.ending = "fault"
-        self.thing = name
+        self.fail(name)
 
 
 def go_on_with_rows(frame, rows, place):

@@ -80,6 +80,11 @@ def ruled_spans(nearest):
     return spans
 
 
+# Whether one block rules another one, to which one comes; one without a span rules none.
+def spans_rule(spans, number, other):
+    return number in spans and spans[number][0] <= spans[other][0] < spans[number][1]
+
+
 # A dict of True for each block from which one comes back to it.
 def on_rounds(ways):
     done = {}

@@ -1,10 +1,15 @@
-"""What several tests need: things of every kind, 1 told apart from True, trees, programs by chance, and codes."""
+"""What several tests need: things of every kind, 1 told apart from True, trees, programs by chance, codes, pairs."""
 
 from itertools import product
 from random import Random
 
 from eachstepsame.blocks import Back, Block, Branch, Code, Function, Jump, Raise, Risk, Row
-from eachstepsame.errors import StepError
+from eachstepsame.errors import Fault, StepError
+from eachstepsame.fits import operand_kind, rulers
+from eachstepsame.lowering import lowered
+from eachstepsame.ops import reckoned
+from eachstepsame.rewriting import same_paper
+from eachstepsame.typer import typed
 
 NUM = ("num",)
 TRUTH = ("truth",)
@@ -373,3 +378,285 @@ def graph(*ways):
             end = Jump((followers[0], ())) if followers else Raise("oops")
         blocks.append(Block((), [TICK], end))
     return Function((), NUM, {}, blocks)
+
+
+def noted(operand):
+    """A log row."""
+    return Row(None, "log", None, [operand])
+
+
+def made(takes, gives, *blocks, **kinds):
+    """A function; names are numbers from 0 on, of numbers where kinds tells no other kind: n3=TRUTH."""
+    given = [name for block in blocks for name in block.given()]
+    told = {name: kinds.get("n" + str(name), NUM) for name in given}
+    return Function(takes, gives, told, blocks)
+
+
+def single(rows, end, takes=(), gives=NUM, **kinds):
+    return Code({"main": made(takes, gives, Block(range(len(takes)), rows, end), **kinds)})
+
+
+def plain_cases(a, p):
+    """Of each plain row, of a number and a truth: its operation, its operands, and what it plainly gives."""
+    zero = num(0)
+    return [
+        ("add", a, zero, a), ("add", zero, a, a), ("sub", a, zero, a), ("sub", a, a, zero), ("less", a, a, NO),
+        ("same", a, a, YES), ("and", p, YES, p), ("and", YES, p, p), ("and", p, NO, NO), ("and", NO, p, NO),
+        ("or", p, NO, p), ("or", NO, p, p), ("or", p, YES, YES), ("or", YES, p, YES),
+    ]
+
+
+def sown_code(sower):
+    return lowered(typed(sower.program()))
+
+
+class BlockOracle:
+    """Runs what a code tells as tuples: a generator for each call, in a pile of generators."""
+
+    def __init__(self, code, budget):
+        self.functions, self.budget = dict(code.told()), budget
+        self.log, self.took, self.steps, self.answer = [], 0, 0, None
+
+    def run(self, inputs):
+        pile, sent = [self.function("main", inputs)], None
+        while pile:
+            try:
+                asked = pile[-1].send(sent)
+            except StopIteration as left:
+                pile.pop()
+                sent = left.value
+                continue
+            if asked == "dry":
+                return ("dry", None, tuple(self.log), self.took)
+            pile.append(self.function(*asked))
+            sent = None
+        self.answer = sent[1]
+        thing = sent[1] if sent[0] == "fault" else self.outward(sent[1])
+        return (sent[0], thing, tuple(self.log), self.took)
+
+    def outward(self, value):
+        if isinstance(value, tuple):
+            return tuple(self.outward(part) for part in value)
+        return ("truth" if isinstance(value, bool) else "num", value)
+
+    def tick(self):
+        if self.took == self.budget:
+            return False
+        self.took += 1
+        return True
+
+    def function(self, text, given):
+        """Asks for calls, and is left with (answer, value) or (fault, name)."""
+        blocks = self.functions[text][3]
+        number, there = 0, {}
+
+        def of(operand):
+            return there[operand[1]] if operand[0] == "name" else operand[1]
+
+        while True:
+            params, rows, end = blocks[number]
+            there = {**there, **dict(zip(params, given))}
+            for name, op, extra, operands in rows:
+                self.steps += 1
+                if op == "tick" and not self.tick():
+                    yield "dry"
+                if op == "log":
+                    self.log.append(self.outward(of(operands[0])))
+                if name is not None:
+                    there[name] = reckoned(op, extra, [of(operand) for operand in operands])
+            self.steps += 1
+            ahead, result = [], None
+            if end[0] == "back":
+                return ("answer", of(end[1]))
+            if end[0] == "raise":
+                return ("fault", end[1])
+            if end[0] == "risk":
+                if end[1] == "call":
+                    if not self.tick():
+                        yield "dry"
+                    result = yield (end[2], [of(operand) for operand in end[3]])
+                else:
+                    try:
+                        result = ("answer", reckoned(end[1], end[2], [of(operand) for operand in end[3]]))
+                    except Fault as fault:
+                        result = ("fault", fault.name)
+                if result[0] == "fault" and result[1] not in dict(end[5]):
+                    return result
+                ahead = [result[1]] if result[0] == "answer" else []
+                edge = end[4] if result[0] == "answer" else dict(end[5])[result[1]]
+            else:
+                edge = end[1] if end[0] == "jump" else end[2] if of(end[1]) else end[3]
+            number, given = edge[0], ahead + [of(arg) for arg in edge[1]]
+
+
+def changed(function, number=0, **parts):
+    """The function with some parts of one block, or the kinds, the takes or what it gives, put otherwise."""
+    block = function.blocks[number]
+    made = Block(parts.get("params", block.params), parts.get("rows", block.rows), parts.get("end", block.end))
+    blocks = function.blocks[:number] + (made,) + function.blocks[number + 1:] + tuple(parts.get("more", ()))
+    kinds = {**function.kinds, **parts.get("kinds", {})}
+    for text in parts.get("without", ()):
+        del kinds[text]
+    return Function(parts.get("takes", function.takes), parts.get("gives", function.gives), kinds, blocks)
+
+
+def as_now(operand, images):
+    return images.get(operand[1]) if operand[0] == "name" else operand
+
+
+class Rougher:
+    """A code behind is made rougher again and again, without doing otherwise; so there is a code ahead, and a paper."""
+
+    def __init__(self, code, seed, times=4):
+        self.chance, self.behind, self.ahead, self.used = Random(seed), code, code, set()
+        self.paper = same_paper(code)
+        for time in range(times):
+            sort = self.chance.choice(["copy", "plain", "fold", "moved", "param", "known", "known", "more"])
+            text = self.chance.choice(code.names())
+            function = self.ahead.functions[text]
+            self.fresh = max(list(function.kinds) + list(code.functions[text].kinds), default=-1) + 1
+            before = shown((self.ahead.told(), self.paper))
+            made = getattr(self, sort)(function, self.chance.randrange(len(function.blocks)), self.paper[text][1])
+            if made is not None and made.told() != function.told():
+                self.ahead = self.ahead.with_function(text, made)
+                self.used.add(sort)
+            elif shown((self.ahead.told(), self.paper)) != before:
+                raise AssertionError(sort)
+
+    def operand_in(self, function, number, kinds):
+        """Some operand of one of these kinds that a row or an end of the block reads; None where there is none."""
+        block = function.blocks[number]
+        read = [operand for line in block.rows for operand in line.operands] + block.end.every_read()
+        some = [operand for operand in read if operand_kind(function, operand) in kinds]
+        return self.chance.choice(some) if some else None
+
+    def put_ahead(self, function, number, operand, row, images):
+        """The row right ahead of what reads the operand first; from there on its name stands there."""
+        block, rows, done = function.blocks[number], [], False
+        told = {operand[1]: n(self.fresh)} if operand[0] == "name" else {}
+
+        def otherwise(line, told):
+            if operand[0] == "name" or line.op == "tick":
+                return line.moved(told, {})
+            operands = [n(self.fresh) if one == operand else one for one in line.operands]
+            return Row(line.name, line.op, line.extra, operands)
+
+        for line in block.rows:
+            if not done and operand in line.operands:
+                rows.append(row)
+                done = True
+            rows.append(otherwise(line, told) if done else line)
+        if not done:
+            rows.append(row)
+        kind = operand_kind(function, operand)
+        images[self.fresh] = as_now(operand, images)
+        end = block.end.moved(told, {})
+        return changed(function, number, rows=rows, end=end, kinds={self.fresh: kind})
+
+    def copy(self, function, number, images):
+        operand = self.operand_in(function, number, KINDS)
+        if operand is None or as_now(operand, images) is None:
+            return None
+        return self.put_ahead(function, number, operand, Row(self.fresh, "copy", None, [operand]), images)
+
+    def plain(self, function, number, images):
+        operand = self.operand_in(function, number, [NUM, TRUTH])
+        if operand is None or as_now(operand, images) is None:
+            return None
+        zero = num(0)
+        rows = {NUM: [("add", operand, zero), ("add", zero, operand), ("sub", operand, zero)],
+                TRUTH: [("and", operand, YES), ("and", YES, operand), ("or", operand, NO), ("or", NO, operand)]}
+        op, left, right = self.chance.choice(rows[operand_kind(function, operand)])
+        return self.put_ahead(function, number, operand, Row(self.fresh, op, None, [left, right]), images)
+
+    def fold(self, function, number, images):
+        block = function.blocks[number]
+        read = [operand for line in block.rows for operand in line.operands]
+        some = [operand for operand in read if operand[0] != "name"]
+        if not some:
+            return None
+        word, value = operand = self.chance.choice(some)
+        rows = {"num": [("sub", [num(value + 3), num(3)]), ("neg", [num(-value)]), ("copy", [operand])],
+                "truth": [("not", [("truth", not value)]), ("and", [operand, operand]), ("same", [num(1),
+                                                                                                  num(int(value))])]}
+        op, operands = self.chance.choice(rows[word])
+        return self.put_ahead(function, number, operand, Row(self.fresh, op, None, operands), images)
+
+    def moved(self, function, number, images):
+        """A row of a block that rules this one, once more, and what it gives read from there."""
+        above = [one for one in rulers(function)[number] if one != number]
+        lines = [line for one in above for line in function.blocks[one].rows if line.name is not None]
+        lines = [line for line in lines if line.name in images and None not in [as_now(x,
+                                                                                       images) for x in line.operands]]
+        if not lines:
+            return None
+        line = self.chance.choice(lines)
+        row = Row(self.fresh, line.op, line.extra, line.operands)
+        block = function.blocks[number]
+        told = {line.name: n(self.fresh)}
+        images[self.fresh] = images[line.name]
+        return changed(function, number, rows=[row] + [one.moved(told, {}) for one in block.rows],
+                       end=block.end.moved(told, {}), kinds={self.fresh: function.kinds[line.name]})
+
+    def param(self, function, number, images):
+        """One param more, to which all edges hand one operand, which it stands for in its block."""
+        if number == 0:
+            return None
+        above = [one for one in rulers(function)[number] if one != number]
+        names = [text for one in above for text in function.blocks[one].given() if text in images]
+        operand = self.chance.choice([n(text) for text in names] + [num(4), YES])
+        told = {operand[1]: n(self.fresh)} if operand[0] == "name" else {}
+        blocks = []
+        for place, block in enumerate(function.blocks):
+            params, rows, end = block.params, block.rows, block.end
+            if place == number:
+                params, rows, end = params + (self.fresh,), [line.moved(told, {}) for line in rows], end.moved(told, {})
+            itself = n(self.fresh) if place == number and self.chance.random() < 0.5 else operand
+            blocks.append(Block(params, rows, self.handing(end, number, itself)))
+        kinds = {**function.kinds, self.fresh: operand_kind(function, operand)}
+        images[self.fresh] = as_now(operand, images)
+        return Function(function.takes, function.gives, kinds, blocks)
+
+    def handing(self, end, number, operand):
+        def more(edge):
+            return (edge[0], edge[1] + (operand,)) if edge[0] == number else edge
+        told = end.told()
+        if told[0] == "jump":
+            return Jump(more(end.edge))
+        if told[0] == "branch":
+            return Branch(end.test, more(end.yes), more(end.no))
+        if told[0] == "risk":
+            return Risk(end.op, end.extra, end.asked, more(end.edge), [(fault, more(way)) for fault,
+                                                                       way in end.catches])
+        return end
+
+    def known(self, function, number, images):
+        """A jump or a raise becomes an end that is known; other ways lead to a block without partner."""
+        some = [place for place, block in enumerate(function.blocks) if isinstance(block.end, (Jump, Raise))]
+        number = self.chance.choice(some) if some else number
+        end, waste, more = function.blocks[number].end, len(function.blocks), Block((), (), Raise("waste"))
+        result, kinds = Block((self.fresh,), (), Raise("waste")), {}
+        great = num(10 ** 30)
+        if isinstance(end, Jump) and end.edge[1] and end.edge[1][0][0] == "num" and self.chance.random() < 0.7:
+            value, more = end.edge[1][0][1], None
+            end = Risk("div", None, [num(2 * value), num(2)], (end.edge[0], end.edge[1][1:]), [("zero", end.edge)])
+        elif isinstance(end, Jump) and self.chance.random() < 0.5:
+            more, kinds = result, {self.fresh: NUM}
+            end = Risk("mul", None, [great, great], (waste, ()), [("zero", end.edge), ("great", end.edge)])
+        elif isinstance(end, Jump):
+            test = self.chance.choice([YES, NO])
+            sides = [end.edge, (waste, ())]
+            end = Branch(test, *(sides if test == YES else sides[::-1]))
+        elif isinstance(end, Raise) and end.fault == "zero":
+            more, kinds = result, {self.fresh: NUM}
+            end = Risk("mod", None, [num(1), num(0)], (waste, ()), [])
+        else:
+            return None
+        return changed(function, number, end=end, more=[more] if more else [], kinds=kinds)
+
+    def more(self, function, number, images):
+        """A row that nobody reads, and that has no image."""
+        rows = list(function.blocks[number].rows)
+        place = self.chance.randrange(len(rows) + 1)
+        rows.insert(place, Row(self.fresh, "add", None, [num(1), num(1)]))
+        return changed(function, number, rows=rows, kinds={self.fresh: NUM})

@@ -9,7 +9,7 @@ from eachstepsame.errors import NoCode
 from eachstepsame.fits import closed_up, followers, given_in, is_fit, need_fit, operand_kind, reached, rulers
 from eachstepsame.ops import is_pure, is_risky, result_kind
 from tests.helper import (
-    FLAG, KINDS, NO, NUM, TICK, TRUTH, YES, graph, n, num, refusal, sample_code, sample_main, shown, things,
+    FLAG, KINDS, NO, NUM, TICK, TRUTH, YES, changed, graph, n, num, refusal, sample_code, sample_main, shown, things,
 )
 
 WIDE = ("row", 2)
@@ -17,17 +17,6 @@ WIDE = ("row", 2)
 
 def log(operand):
     return Row(None, "log", None, [operand])
-
-
-def changed(function, number=0, **parts):
-    """The function with some parts of one block, or the kinds, the takes or what it gives, put otherwise."""
-    block = function.blocks[number]
-    made = Block(parts.get("params", block.params), parts.get("rows", block.rows), parts.get("end", block.end))
-    blocks = function.blocks[:number] + (made,) + function.blocks[number + 1:] + tuple(parts.get("more", ()))
-    kinds = {**function.kinds, **parts.get("kinds", {})}
-    for name in parts.get("without", ()):
-        del kinds[name]
-    return Function(parts.get("takes", function.takes), parts.get("gives", function.gives), kinds, blocks)
 
 
 def sample(number=0, **parts):
