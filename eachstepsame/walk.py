@@ -239,8 +239,8 @@ class Stride:
             return False
         return all([ahead[place] == told for ahead, behind in answered])
 
-    # Whether an operand is a constant, or a name that another block gives which rules this one behind: so it has its value
-    # ahead of the edges to this block.
+    # Whether an operand is a constant, or a name that another block gives which rules this one behind: so it has its
+    # value ahead of the edges to this block.
     def stays(self, operand, number):
         if operand[0] != "name":
             return True
