@@ -34,6 +34,10 @@ class End:
     def edges(self):
         return []
 
+    # The same end with other edges, as many as it has and in their order.
+    def with_edges(self, edges):
+        return self
+
     def reads(self):
         return []
 
@@ -57,6 +61,9 @@ class Jump(End):
     def edges(self):
         return [(self.edge, False)]
 
+    def with_edges(self, edges):
+        return Jump(edges[0])
+
 
 class Branch(End):
     def __init__(self, test, yes, no):
@@ -73,6 +80,9 @@ class Branch(End):
 
     def edges(self):
         return [(self.yes, False), (self.no, False)]
+
+    def with_edges(self, edges):
+        return Branch(self.test, edges[0], edges[1])
 
     def reads(self):
         return [self.test]
@@ -121,6 +131,10 @@ class Risk(End):
 
     def edges(self):
         return [(self.edge, True)] + [(way, False) for fault, way in self.catches]
+
+    def with_edges(self, edges):
+        faults = [fault for fault, way in self.catches]
+        return Risk(self.op, self.extra, self.asked, edges[0], list(zip(faults, edges[1:])))
 
     def reads(self):
         return list(self.asked)

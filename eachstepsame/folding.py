@@ -1,8 +1,7 @@
 """Folding: rows that give a constant, or plainly one of their operands, are left out."""
 
-from eachstepsame.blocks import Block
 from eachstepsame.fits import rulers_first
-from eachstepsame.rewriting import Rewriting, same_sheet
+from eachstepsame.rewriting import Rewriting, put_instead
 from eachstepsame.walk import constant_given, plain_of
 
 
@@ -14,13 +13,7 @@ class Fold(Rewriting):
         return ("fold", "plain")
 
     def rewritten(self, function):
-        folded = folded_names(function)
-        if len(folded) == 0:
-            return None
-        blocks = [block_without(block, folded) for block in function.blocks]
-        sheet = same_sheet(function)
-        sheet[1].update(folded)
-        return (function.with_blocks(blocks), sheet)
+        return put_instead(function, folded_names(function))
 
 
 # Operands for the names that are not their own images.
@@ -41,9 +34,3 @@ def folded_row(row):
     if constant is not None or len(row.operands) != 2:
         return constant
     return plain_of(row.op, row.operands[0], row.operands[1])
-
-
-# The block without the rows that give these names; elsewhere the names are put as the operands that are told for them.
-def block_without(block, operands):
-    rows = [row.moved(operands, {}) for row in block.rows if row.name not in operands]
-    return Block(block.params, rows, block.end.moved(operands, {}))

@@ -1,15 +1,18 @@
 """What several tests need: things of every kind, 1 told apart from True, trees, programs by chance, codes, pairs."""
 
+import unittest
 from itertools import product
 from random import Random
 
+from eachstepsame.blockrun import run_blocks
 from eachstepsame.blocks import Back, Block, Branch, Code, Function, Jump, Raise, Risk, Row
 from eachstepsame.errors import Fault, StepError
-from eachstepsame.fits import operand_kind, rulers
+from eachstepsame.fits import need_fit, operand_kind, rulers
 from eachstepsame.lowering import lowered
 from eachstepsame.ops import reckoned
 from eachstepsame.rewriting import same_paper
 from eachstepsame.typer import typed
+from eachstepsame.walk import Walk
 
 NUM = ("num",)
 TRUTH = ("truth",)
@@ -385,6 +388,14 @@ def noted(operand):
     return Row(None, "log", None, [operand])
 
 
+def neg(name, operand):
+    return Row(name, "neg", None, [operand])
+
+
+def add(name, one, other):
+    return Row(name, "add", None, [one, other])
+
+
 def made(takes, gives, *blocks, **kinds):
     """A function; names are numbers from 0 on, of numbers where kinds tells no other kind: n3=TRUTH."""
     given = [name for block in blocks for name in block.given()]
@@ -660,3 +671,271 @@ class Rougher:
         place = self.chance.randrange(len(rows) + 1)
         rows.insert(place, Row(self.fresh, "add", None, [num(1), num(1)]))
         return changed(function, number, rows=rows, kinds={self.fresh: NUM})
+
+
+WIDE = ("row", 2)
+
+
+class Drawer:
+    """Codes drawn without a program: any graph, and params handed whatever is given there, often the same."""
+
+    OPS = [("copy", None, [NUM], NUM), ("copy", None, [TRUTH], TRUTH), ("copy", None, [WIDE], WIDE),
+           ("add", None, [NUM, NUM], NUM), ("add", None, [NUM, NUM], NUM), ("sub", None, [NUM, NUM], NUM),
+           ("neg", None, [NUM], NUM), ("less", None, [NUM, NUM], TRUTH), ("same", None, [NUM, NUM], TRUTH),
+           ("and", None, [TRUTH, TRUTH], TRUTH), ("or", None, [TRUTH, TRUTH], TRUTH), ("not", None, [TRUTH], TRUTH),
+           ("make", WIDE, [NUM, NUM], WIDE), ("make", FLAG, [TRUTH, NUM], FLAG), ("get", 0, [WIDE], NUM),
+           ("get", 1, [WIDE], NUM), ("put", 0, [WIDE, NUM], WIDE), ("put", 1, [WIDE, NUM], WIDE)]
+    RISKS = [("mul", [NUM, NUM], "great"), ("div", [NUM, NUM], "zero"), ("mod", [NUM, NUM], "zero"),
+             ("pick", [WIDE, NUM], "range")]
+    CONSTANTS = {NUM: [num(0), num(1), num(10 ** 40)], TRUTH: [YES, NO]}
+
+    def __init__(self, seed, size=7):
+        self.chance, self.size = Random(seed), size
+        texts = ["main"] + ["f", "g"][:self.chance.randrange(3)]
+        self.takes = {text: tuple(self.some_kinds(3)) for text in texts}
+
+    def some_kinds(self, most):
+        return [self.chance.choice([NUM, NUM, TRUTH, WIDE]) for place in range(self.chance.randrange(most + 1))]
+
+    def value(self, kind):
+        if kind == WIDE:
+            return (self.value(NUM), self.value(NUM))
+        return self.chance.choice([True, False]) if kind == TRUTH else self.chance.choice([0, 1, 2, -5, 10 ** 30])
+
+    def inputs(self):
+        return [self.value(kind) for kind in self.takes["main"]]
+
+    def code(self):
+        return Code({text: self.function(text) for text in self.takes})
+
+    def shapes(self):
+        """For each block the word of its end and the blocks to which its edges lead; all are come to."""
+        count = self.chance.randrange(1, self.size + 1)
+        sorts = {"jump": 1, "branch": 2, "back": 0, "raise": 0, "risk": 1, "catch": 2}
+        found = []
+        for number in range(count):
+            sort = self.chance.choice(["jump"] * 4 + ["branch"] * 5 + ["back", "raise", "risk", "catch", "catch"])
+            sort = sort if count > 1 else "back"
+            found.append((sort, [self.chance.randrange(1, count) for edge in range(sorts[sort])]))
+        left = [0]
+        for number in left:
+            left.extend(sorted(set(found[number][1]) - set(left)))
+        left.sort()
+        return [(found[number][0], [left.index(to) for to in found[number][1]]) for number in left]
+
+    def function(self, text):
+        shapes = self.shapes()
+        self.fresh = self.chance.sample(range(1000), 999)
+        self.kinds, self.blocks, self.text = {}, {}, text
+        results = {to[0] for sort, to in shapes if sort in ("risk", "catch")}
+        params = [self.takes[text]]
+        params += [[NUM] * (number in results) + self.some_kinds(3) for number in range(1, len(shapes))]
+        self.params = [[self.name_of(kind) for kind in kinds] for kinds in params]
+        ends = [Branch(YES, (to[0], ()), (to[-1], ())) if to else Raise("oops") for sort, to in shapes]
+        self.above = rulers(Function((), NUM, {}, [Block((), (), end) for end in ends]))
+        self.rounds = {one for number, (sort, to) in enumerate(shapes) for one in to if one <= number}
+        self.rows = {}
+        for number in sorted(range(len(shapes)), key=lambda one: len(self.above[one])):
+            self.rows[number] = self.some_rows(number)
+        self.liked = {name: self.chance.choice(self.given_to([one for one in self.above[number] if one != number],
+                                                             self.kinds[name]))
+                      for number in range(1, len(shapes)) for name in self.params[number]}
+        blocks = [Block(self.params[number], self.rows[number], self.end(number, *shape))
+                  for number, shape in enumerate(shapes)]
+        return Function(self.takes[text], NUM, self.kinds, blocks)
+
+    def name_of(self, kind):
+        name = self.fresh.pop()
+        self.kinds[name] = kind
+        return name
+
+    def given_to(self, numbers, kind, more=()):
+        names = [name for number in numbers for name in self.params[number]]
+        names += [row.name for number in numbers for row in self.rows.get(number, [])] + [row.name for row in more]
+        some = [n(name) for name in names if name is not None and self.kinds[name] == kind]
+        return some * 2 + self.CONSTANTS.get(kind, [])
+
+    def some_rows(self, number):
+        rows = [Row(self.name_of(WIDE), "make", WIDE, [num(1), num(2)])] if number == 0 else []
+        rows += [TICK] * (number in self.rounds or self.chance.random() < 0.2)
+        for place in range(self.chance.randrange(5)):
+            if self.chance.random() < 0.15:
+                rows.append(noted(self.chance.choice(self.given_to(self.above[number], NUM, rows))))
+                continue
+            lines = [line for one in self.above[number] for line in self.rows.get(one, rows) if line.name is not None]
+            if lines and self.chance.random() < 0.25:
+                line = self.chance.choice(lines)
+                rows.append(Row(self.name_of(self.kinds[line.name]), line.op, line.extra, line.operands))
+                continue
+            op, extra, kinds, kind = self.chance.choice(self.OPS)
+            operands = [self.chance.choice(self.given_to(self.above[number], one, rows)) for one in kinds]
+            rows.append(Row(self.name_of(kind), op, extra, operands))
+        return rows
+
+    def operand(self, number, kind):
+        return self.chance.choice(self.given_to(self.above[number], kind))
+
+    def edge(self, number, to, handed=False):
+        args = []
+        for name in self.params[to][handed:]:
+            some = [self.liked[name]] * 3 + [n(name)] * 3 * (to in self.above[number])
+            args.append(self.chance.choice(some + [self.operand(number, self.kinds[name])]))
+        return (to, tuple(args))
+
+    def end(self, number, sort, to):
+        if sort == "jump":
+            return Jump(self.edge(number, to[0]))
+        if sort == "branch":
+            return Branch(self.operand(number, TRUTH), self.edge(number, to[0]), self.edge(number, to[1]))
+        if sort in ("back", "raise"):
+            return Back(self.operand(number, NUM)) if sort == "back" else Raise("oops")
+        op, kinds, fault = self.chance.choice(self.RISKS)
+        extra, fault = None, self.chance.choice([fault, "oops"])
+        if self.chance.random() < 0.3:
+            op, extra = "call", self.chance.choice(sorted(self.takes))
+            kinds = self.takes[extra]
+        asked = [self.operand(number, kind) for kind in kinds]
+        catches = [(fault, self.edge(number, to[1]))] if sort == "catch" else []
+        return Risk(op, extra, asked, self.edge(number, to[0], True), catches)
+
+
+def put_end(end, of_edge, of_operand):
+    """An end, told as a tuple, with its edges, and what it reads itself, put otherwise."""
+    if end[0] == "jump":
+        return ("jump", of_edge(end[1], False))
+    if end[0] == "branch":
+        return ("branch", of_operand(end[1]), of_edge(end[2], False), of_edge(end[3], False))
+    if end[0] == "back":
+        return ("back", of_operand(end[1]))
+    if end[0] == "raise":
+        return end
+    catches = tuple((fault, of_edge(way, False)) for fault, way in end[5])
+    return end[:3] + (tuple(of_operand(operand) for operand in end[3]), of_edge(end[4], True), catches)
+
+
+def told_edges(blocks):
+    """Of blocks, told as tuples, all edges, with whether a result is handed on ahead of the args."""
+    found = []
+
+    def kept(edge, handed):
+        found.append((edge, handed))
+        return edge
+
+    for params, rows, end in blocks:
+        put_end(end, kept, lambda operand: operand)
+    return found
+
+
+def all_handed(told):
+    """Of a function that tells this: for each param of a block other than 0 what is handed to it; None is a result."""
+    found = {name: [] for params, rows, end in told[3][1:] for name in params}
+    for (number, args), handed in told_edges(told[3]):
+        for name, operand in zip(told[3][number][0], (None,) * handed + args):
+            found[name].append(operand)
+    return found
+
+
+def cut(told, gone, operands):
+    """What a function tells without rows and params of these names, and with operands in the place of names."""
+    def of(operand):
+        return operands.get(operand[1], operand) if operand[0] == "name" else operand
+
+    def of_edge(edge, handed):
+        params = told[3][edge[0]][0][handed:]
+        return (edge[0], tuple(of(arg) for name, arg in zip(params, edge[1]) if name not in gone))
+
+    blocks = []
+    for params, rows, end in told[3]:
+        rows = tuple(row[:3] + (tuple(of(operand) for operand in row[3]),) for row in rows if row[0] not in gone)
+        blocks.append((tuple(name for name in params if name not in gone), rows, put_end(end, of_edge, of)))
+    kinds = tuple((name, kind) for name, kind in told[2] if name not in gone)
+    return told[:2] + (kinds, tuple(blocks))
+
+
+def own_sheet(told):
+    """The sheet by which a function that tells this is its own behind."""
+    return ({number: number for number in range(len(told[3]))}, {name: n(name) for name, kind in told[2]})
+
+
+def shown_sheet(sheet):
+    return [sorted(shown(pair) for pair in part.items()) for part in sheet]
+
+
+class Tried(unittest.TestCase):
+    """What a rewriting tells of a code, looked at from all sides."""
+
+    # The class of the rewriting, and reasons of which none can stand in for its own ones; None where it has none.
+    rewriting, without = None, None
+
+    def wanted(self, function):
+        """By a second reading: what the function behind tells, and its sheet; None where nothing changes."""
+        raise NotImplementedError
+
+    def is_needed(self, code, paper):
+        """Whether the paper needs the rewriting's own reasons."""
+        return self.without is not None
+
+    def comes(self, code):
+        """The code behind; None where nothing changes."""
+        need_fit(code)
+        kept = shown(code.told())
+        made = self.rewriting().tried(code)
+        self.assertEqual(shown(code.told()), kept)
+        wanted = {text: self.wanted(function) for text, function in code.functions.items()}
+        if made is None:
+            self.assertEqual(list(wanted.values()), [None] * len(wanted))
+            return None
+        self.assertIs(made.__class__, tuple)
+        behind, paper = made
+        need_fit(behind)
+        self.assertEqual(behind.names(), code.names())
+        self.assertEqual(sorted(paper), code.names())
+        for text, function in code.functions.items():
+            told, sheet = wanted[text] or (function.told(), own_sheet(function.told()))
+            self.assertEqual(shown(behind.functions[text].told()), shown(told))
+            self.assertEqual(shown_sheet(paper[text]), shown_sheet(sheet))
+        self.assertNotEqual(behind.told(), code.told())
+        self.assertTrue(self.rewriting().holds(code, behind, paper))
+        if self.is_needed(code, paper):
+            self.assertFalse(Walk(self.without).lets_by(code, behind, paper))
+        self.assertIsNone(self.rewriting().tried(behind))
+        return behind
+
+    def becomes(self, ahead, behind):
+        need_fit(behind)
+        self.assertEqual(shown(self.comes(ahead).told()), shown(behind.told()))
+
+    def stays(self, code):
+        self.assertIsNone(self.comes(code))
+
+    def runs_alike(self, ahead, behind, inputs, budgets=(0, 1, 2, 5, 30)):
+        for budget in budgets:
+            one, other = run_blocks(ahead, inputs, budget), run_blocks(behind, inputs, budget)
+            self.assertEqual(shown(one.seen()), shown(other.seen()), (inputs, budget))
+            self.assertLessEqual(other.steps, behind.width() * (other.took + 1))
+
+    def changes_of_sown(self, count):
+        """How many codes were changed, of programs by chance that are made rougher; what is seen is the same."""
+        changes = 0
+        for seed in range(count):
+            sower = Sower(seed, size=60)
+            ahead = Rougher(sown_code(sower), seed, seed % 6).ahead
+            with self.subTest(seed=seed):
+                behind = self.comes(ahead)
+                changes += behind is not None
+                takes = next(head[1] for head in sower.heads if head[0] == "main")
+                for time in range(2 if behind else 0):
+                    self.runs_alike(ahead, behind, [sower.value(kind) for text, kind in takes])
+        return changes
+
+    def changes_of_drawn(self, count):
+        changes = 0
+        for seed in range(count):
+            drawer = Drawer(seed)
+            ahead = drawer.code()
+            with self.subTest(seed=seed):
+                behind = self.comes(ahead)
+                changes += behind is not None
+                for time in range(2 if behind else 0):
+                    self.runs_alike(ahead, behind, drawer.inputs())
+        return changes

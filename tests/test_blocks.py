@@ -289,6 +289,20 @@ class Moved(unittest.TestCase):
             self.assertEqual((names, numbers), (self.NAMES, self.BLOCKS))
             self.assertEqual(shown(end.moved({}, {}).told()), shown(before))
 
+    def test_other_edges(self):
+        for end, told in zip(ENDS, TOLD):
+            same = end.with_edges([edge for edge, handed in end.edges()])
+            self.assertIs(same.__class__, end.__class__)
+            self.assertEqual(shown(same.told()), shown(told))
+            others = [(10 + place, (n(place),)) for place in range(len(end.edges()))]
+            other = end.with_edges(others)
+            self.assertEqual([edge for edge, handed in other.edges()], others)
+            self.assertEqual(other.reads(), end.reads())
+            self.assertEqual(shown(end.told()), shown(told))
+        risk = ENDS[4].with_edges([(1, ()), (2, (YES,)), (3, ())])
+        self.assertEqual(shown(risk.told()), shown(
+            ("risk", "pick", None, (n(1), n(2)), (1, ()), (("range", (2, (YES,))), ("zero", (3, ()))))))
+
     def test_names_and_blocks_are_apart(self):
         end = Branch(n(2), (2, (n(2),)), (1, (n(1),)))
         self.assertEqual(end.moved({1: n(2), 2: n(1)}, {}).told(), ("branch", n(1), (2, (n(1),)), (1, (n(2),))))

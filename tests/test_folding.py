@@ -2,19 +2,13 @@
 
 import unittest
 
-from eachstepsame.blockrun import run_blocks
 from eachstepsame.blocks import Back, Block, Branch, Code, Function, Jump, Risk, Row
-from eachstepsame.fits import need_fit
 from eachstepsame.folding import Fold
 from eachstepsame.ops import is_pure, reckoned
-from eachstepsame.rewriting import same_paper
-from eachstepsame.walk import Walk, plain_of
+from eachstepsame.walk import plain_of
 from tests.helper import (
-    FLAG, NO, NUM, TICK, TRUTH, YES, Rougher, Sower, made, n, noted, num, plain_cases, sample_code, shown, single,
-    sown_code,
+    FLAG, NO, NUM, TICK, TRUTH, WIDE, YES, Tried, made, n, noted, num, plain_cases, sample_code, single,
 )
-
-WIDE = ("row", 2)
 
 
 class Wanted:
@@ -52,33 +46,11 @@ class Wanted:
         return behind.told(), ({number: number for number in range(len(blocks))}, names)
 
 
-class Folds(unittest.TestCase):
-    def folded(self, code):
-        """The code behind, looked at from all sides."""
-        need_fit(code)
-        told = Fold().tried(code)
-        wanted = {text: Wanted(function).told() for text, function in code.functions.items()}
-        if told is None:
-            self.assertEqual(set(wanted.values()), {None})
-            return None
-        behind, paper = told
-        need_fit(behind)
-        for text, function in code.functions.items():
-            other = wanted[text] or (function.told(), same_paper(code)[text])
-            self.assertEqual(shown(behind.functions[text].told()), shown(other[0]))
-            self.assertEqual(paper[text], other[1])
-            self.assertEqual(sorted(map(shown, paper[text][1].items())), sorted(map(shown, other[1][1].items())))
-        self.assertEqual(sorted(paper), code.names())
-        self.assertTrue(Fold().holds(code, behind, paper))
-        self.assertFalse(Walk(["moved", "known", "param"]).lets_by(code, behind, paper))
-        self.assertIsNone(Fold().tried(behind))
-        return behind
+class Folds(Tried):
+    rewriting, without = Fold, ("moved", "known", "param")
 
-    def becomes(self, ahead, behind):
-        self.assertEqual(shown(self.folded(ahead).told()), shown(behind.told()))
-
-    def stays(self, code):
-        self.assertIsNone(self.folded(code))
+    def wanted(self, function):
+        return Wanted(function).told()
 
 
 class ByHand(Folds):
@@ -206,23 +178,11 @@ class ByHand(Folds):
 
 
 class ByChance(Folds):
-    def test_as_wanted_and_the_same(self):
-        changes = 0
-        for seed in range(900):
-            sower = Sower(seed, size=60)
-            ahead = Rougher(sown_code(sower), seed, seed % 6).ahead
-            behind = self.folded(ahead)
-            if behind is None:
-                continue
-            changes += 1
-            takes = next(head[1] for head in sower.heads if head[0] == "main")
-            for count in range(2):
-                inputs = [sower.value(kind) for text, kind in takes]
-                for budget in [0, 1, 2, 5, 30]:
-                    one, other = run_blocks(ahead, inputs, budget), run_blocks(behind, inputs, budget)
-                    self.assertEqual(shown(one.seen()), shown(other.seen()), (seed, inputs, budget))
-                    self.assertLessEqual(other.steps, behind.width() * (other.took + 1))
-        self.assertGreater(changes, 300)
+    def test_of_programs(self):
+        self.assertGreater(self.changes_of_sown(900), 300)
+
+    def test_of_drawn_codes(self):
+        self.assertGreater(self.changes_of_drawn(500), 400)
 
 
 if __name__ == "__main__":

@@ -1,16 +1,34 @@
-"""Points 4, 6 and 80: what rewritings share, and the paper by which a code is its own behind."""
+"""Points 4, 5, 6 and 80: what rewritings share, and the paper by which a code is its own behind."""
 
 import unittest
+from random import Random
 
-from eachstepsame.blocks import Back, Block, Branch, Code, Jump, Row
-from eachstepsame.fits import is_fit
+from eachstepsame.blockrun import run_blocks
+from eachstepsame.blocks import Back, Block, Branch, Code, Jump, Raise, Risk, Row
+from eachstepsame.copying import Copies
 from eachstepsame.folding import Fold
+from eachstepsame.knowing import Known
+from eachstepsame.likes import Likes
+from eachstepsame.lowering import lowered
 from eachstepsame.rewriting import Rewriting, same_paper
+from eachstepsame.sourcerun import run_source
+from eachstepsame.typer import typed
+from eachstepsame.unused import Unused
 from eachstepsame.walk import REASONS, Walk
-from tests.helper import NUM, TRUTH, YES, Rougher, Sower, made, n, num, sample_code, shown, single, sown_code, things
+from tests.helper import (
+    NO, NUM, TRUTH, YES, Drawer, Rougher, Sower, made, n, noted, num, sample_code, shown, single, sown_code, things,
+)
 
 FOLDED = single([Row(1, "add", None, [num(1), num(2)])], Back(n(1)), [NUM])
 COPIED = single([Row(1, "copy", None, [n(0)])], Back(n(1)), [NUM])
+KNOWN = Code({"main": made([NUM], NUM, Block([0], [], Branch(NO, (1, ()), (2, ()))), Block([], [], Back(num(1))),
+                           Block([], [], Back(n(0))))})
+UNUSED = single([Row(1, "neg", None, [n(0)])], Back(n(0)), [NUM])
+LIKE = Code({"main": made([NUM], NUM, Block([0], [Row(1, "neg", None, [n(0)]), noted(n(1))], Jump((1, ()))),
+                          Block([], [Row(2, "neg", None, [n(0)])], Back(n(2))))})
+# None of them changes anything here.
+STAYING = Code({"main": made([NUM], NUM, Block([0], [], Risk("div", None, [n(0), n(0)], (1, ()), [])),
+                             Block([1], [], Back(n(1))))})
 
 
 class SamePaper(unittest.TestCase):
@@ -43,95 +61,184 @@ class SamePaper(unittest.TestCase):
             for code in [pair.ahead, pair.behind]:
                 self.assertTrue(Walk(()).lets_by(code, code, same_paper(code)))
                 self.assertTrue(Walk(REASONS).lets_by(code, code, same_paper(code)))
-                self.assertTrue(Fold().holds(code, code, same_paper(code)))
+                for made_of_nothing, title, reasons, changing in Rewritings.ALL:
+                    self.assertTrue(made_of_nothing().holds(code, code, same_paper(code)))
 
 
 class Rewritings(unittest.TestCase):
     """What holds of each rewriting alike."""
 
-    # A class, its title, its reasons, and reasons of which none can stand in for these: a constant that is copied is
-    # folded too.
-    ALL = [(Fold, "fold", ("fold", "plain"), ("moved", "known", "param"))]
+    # A class, its title, its reasons, and a code that it changes.
+    ALL = [
+        (Fold, "fold", ("fold", "plain"), FOLDED),
+        (Copies, "copies", ("copy", "param"), COPIED),
+        (Known, "known", ("known",), KNOWN),
+        (Unused, "unused", (), UNUSED),
+        (Likes, "likes", ("moved",), LIKE),
+    ]
 
     def test_titles(self):
-        for made_of_nothing, title, reasons, without in self.ALL:
+        for made_of_nothing, title, reasons, code in self.ALL:
             self.assertIsInstance(made_of_nothing(), Rewriting)
+            self.assertEqual(made_of_nothing.__bases__, (Rewriting,))
             self.assertEqual(made_of_nothing().known_as(), title)
 
     def test_checkers_are_walks_of_their_reasons(self):
-        for made_of_nothing, title, reasons, without in self.ALL:
+        pairs = [Rougher(sown_code(Sower(seed, size=30)), seed, 1 + seed % 3) for seed in range(500)]
+        for made_of_nothing, title, reasons, code in self.ALL:
             held = 0
-            for seed in range(500):
-                pair = Rougher(sown_code(Sower(seed, size=30)), seed, 1 + seed % 3)
+            for pair in pairs:
                 wanted = Walk(reasons).lets_by(pair.ahead, pair.behind, pair.paper)
                 self.assertIs(made_of_nothing().holds(pair.ahead, pair.behind, pair.paper), wanted)
                 held += wanted
             self.assertTrue(60 < held < 450, held)
 
-    def test_any_thing_as_the_paper(self):
-        for made_of_nothing, title, reasons, without in self.ALL:
-            for thing in things():
-                self.assertIs(made_of_nothing().holds(FOLDED, FOLDED, thing), False)
+    def test_papers_of_one_another(self):
+        # The paper of each is let by by just those whose reasons allow it.
+        for made_of_nothing, title, reasons, code in self.ALL:
+            behind, paper = made_of_nothing().tried(code)
+            for other, text, others, another in self.ALL:
+                allowed = title in (text, "unused")
+                self.assertIs(other().holds(code, behind, paper), allowed, (title, text))
+            self.assertTrue(Walk(REASONS).lets_by(code, behind, paper))
 
-    def test_what_is_told_by_chance(self):
-        for made_of_nothing, title, reasons, without in self.ALL:
-            changes = 0
-            for seed in range(400):
-                code = Rougher(sown_code(Sower(seed, size=40)), seed, seed % 5).ahead
-                kept = shown(code.told())
-                told = made_of_nothing().tried(code)
-                self.assertEqual(shown(code.told()), kept)
+    def test_any_thing_as_the_paper(self):
+        for made_of_nothing, title, reasons, code in self.ALL:
+            for thing in things():
+                self.assertIs(made_of_nothing().holds(code, code, thing), False)
+
+    def test_told_again(self):
+        # The same question has the same answer, whatever was asked between.
+        for made_of_nothing, title, reasons, code in self.ALL:
+            changes, asked = 0, made_of_nothing()
+            for seed in range(100):
+                code = Drawer(seed).code()
+                told, again = asked.tried(code), made_of_nothing().tried(code)
                 if told is None:
+                    self.assertIsNone(again)
                     continue
                 changes += 1
-                self.assertIs(told.__class__, tuple)
-                behind, paper = told
-                self.assertIsInstance(behind, Code)
-                self.assertTrue(is_fit(behind))
-                self.assertNotEqual(behind.told(), code.told())
-                self.assertTrue(made_of_nothing().holds(code, behind, paper))
-                self.assertFalse(Walk(without).lets_by(code, behind, paper))
-                again = made_of_nothing().tried(code)
-                self.assertEqual(shown((again[0].told(), again[1])), shown((behind.told(), paper)))
-            self.assertGreater(changes, 100)
+                self.assertEqual(shown((again[0].told(), again[1])), shown((told[0].told(), told[1])))
+            self.assertGreater(changes, 20)
 
     def test_what_is_told_is_new(self):
-        code = FOLDED.with_function("f", COPIED.functions["main"])
-        kept = shown(code.told())
-        behind, paper = Fold().tried(code)
-        told = shown((behind.told(), paper))
-        self.assertIsNot(behind.functions["f"].kinds, code.functions["f"].kinds)
-        code.functions["f"].kinds.clear()
-        code.functions.clear()
-        self.assertEqual(shown((behind.told(), paper)), told)
-        behind.functions["f"].kinds.clear()
-        behind.functions.clear()
-        paper["main"][1].clear()
-        paper.clear()
-        self.assertEqual(shown(code.told()), kept)
-        again = Fold().tried(code)
-        self.assertEqual(shown((again[0].told(), again[1])), told)
+        for made_of_nothing, title, reasons, changing in self.ALL:
+            code = changing.with_function("f", STAYING.functions["main"])
+            kept = shown(code.told())
+            behind, paper = made_of_nothing().tried(code)
+            told = shown((behind.told(), paper))
+            self.assertIsNot(behind.functions["f"].kinds, code.functions["f"].kinds)
+            code.functions["f"].kinds.clear()
+            code.functions["main"].kinds.clear()
+            code.functions.clear()
+            self.assertEqual(shown((behind.told(), paper)), told)
+            behind.functions["f"].kinds.clear()
+            behind.functions["main"].kinds.clear()
+            behind.functions.clear()
+            for sheet in paper.values():
+                sheet[0].clear()
+                sheet[1].clear()
+            paper.clear()
+            self.assertEqual(shown(code.told()), kept)
+            again = made_of_nothing().tried(code)
+            self.assertEqual(shown((again[0].told(), again[1])), told)
 
-
-class FoldAsOne(unittest.TestCase):
     def test_nothing_changes(self):
-        self.assertIsNone(Fold().tried(COPIED))
-        self.assertIsNone(Fold().tried(single([], Back(num(1)))))
+        for made_of_nothing, title, reasons, code in self.ALL:
+            self.assertIsNone(made_of_nothing().tried(STAYING))
+            self.assertIsNone(made_of_nothing().tried(single([], Back(num(1)))))
+            for other, text, others, another in self.ALL:
+                # What one leaves out is not for the others to leave out; but what is nobody's need is common.
+                if title not in (text, "unused"):
+                    self.assertIsNone(made_of_nothing().tried(another), (title, text))
 
     def test_one_of_several_functions_changes(self):
-        code = FOLDED.with_function("f", COPIED.functions["main"]).with_function("z", COPIED.functions["main"])
-        behind, paper = Fold().tried(code)
-        self.assertEqual(behind.names(), ["f", "main", "z"])
-        for text in ["f", "z"]:
-            self.assertEqual(behind.functions[text].told(), code.functions[text].told())
-            self.assertEqual(shown(paper[text]), shown(({0: 0}, {0: n(0), 1: n(1)})))
-        self.assertEqual(shown(paper["main"]), shown(({0: 0}, {0: n(0), 1: num(3)})))
-        self.assertEqual(behind.functions["main"].told(), single([], Back(num(3)), [NUM]).functions["main"].told())
+        staying = STAYING.functions["main"]
+        for made_of_nothing, title, reasons, changing in self.ALL:
+            alone = made_of_nothing().tried(changing)
+            for texts in [["f", "z"], ["a"], ["n"]]:
+                code = changing
+                for text in texts:
+                    code = code.with_function(text, staying)
+                behind, paper = made_of_nothing().tried(code)
+                self.assertEqual(behind.names(), sorted(texts + ["main"]))
+                self.assertEqual(sorted(paper), sorted(texts + ["main"]))
+                for text in texts:
+                    self.assertEqual(behind.functions[text].told(), staying.told())
+                    self.assertEqual(shown(paper[text]), shown(({0: 0, 1: 1}, {0: n(0), 1: n(1)})))
+                self.assertEqual(shown(paper["main"]), shown(alone[1]["main"]))
+                self.assertEqual(behind.functions["main"].told(), alone[0].functions["main"].told())
+                self.assertTrue(made_of_nothing().holds(code, behind, paper))
+            # One that changes beside a main that stays.
+            code = STAYING.with_function("f", changing.functions["main"])
+            behind, paper = made_of_nothing().tried(code)
+            self.assertEqual(behind.functions["main"].told(), staying.told())
+            self.assertEqual(behind.functions["f"].told(), alone[0].functions["main"].told())
+            self.assertEqual(shown(paper["f"]), shown(alone[1]["main"]))
 
-    def test_papers_of_others(self):
-        # Each is let by by the full walk, and not by this one.
-        taken = ({0: 0}, {0: n(0), 1: n(0)})
-        copied = (COPIED, single([], Back(n(0)), [NUM]), {"main": taken})
+    def test_several_functions_change(self):
+        for made_of_nothing, title, reasons, changing in self.ALL:
+            alone = made_of_nothing().tried(changing)
+            code = changing.with_function("f", changing.functions["main"])
+            behind, paper = made_of_nothing().tried(code)
+            for text in ["f", "main"]:
+                self.assertEqual(behind.functions[text].told(), alone[0].functions["main"].told())
+                self.assertEqual(shown(paper[text]), shown(alone[1]["main"]))
+
+
+class OneBehindTheOther(unittest.TestCase):
+    """Points 5 and 6: in whatever order they are gone through, each does the same, and there is an end."""
+
+    def gone_through(self, code, seed):
+        chance, waiting, ahead = Random(seed), [], code
+        while True:
+            if not waiting:
+                waiting = [entry[0] for entry in Rewritings.ALL]
+                chance.shuffle(waiting)
+                changed = False
+            rewriting = waiting.pop()()
+            told = rewriting.tried(ahead)
+            if told is not None:
+                self.assertTrue(rewriting.holds(ahead, *told))
+                ahead, changed = told[0], True
+            if not waiting and not changed:
+                return ahead
+
+    def test_programs(self):
+        less = 0
+        for seed in range(150):
+            sower = Sower(seed, size=80)
+            tree = typed(sower.program())
+            code = lowered(tree)
+            ends = [self.gone_through(code, order) for order in range(2)]
+            less += sum(end.width() < code.width() for end in ends)
+            takes = next(head[1] for head in sower.heads if head[0] == "main")
+            inputs = [sower.value(kind) for text, kind in takes]
+            for budget in [0, 1, 3, 20]:
+                wanted = shown(run_source(tree, inputs, budget).seen())
+                for end in ends:
+                    run = run_blocks(end, inputs, budget)
+                    self.assertEqual(shown(run.seen()), wanted)
+                    self.assertLessEqual(run.steps, end.width() * (run.took + 1))
+        self.assertGreater(less, 100)
+
+    def test_drawn_codes(self):
+        for seed in range(150):
+            drawer = Drawer(seed, size=10)
+            code = drawer.code()
+            ends = [self.gone_through(code, order) for order in range(2)]
+            inputs = drawer.inputs()
+            for budget in [0, 1, 3, 20]:
+                wanted = shown(run_blocks(code, inputs, budget).seen())
+                for end in ends:
+                    self.assertEqual(shown(run_blocks(end, inputs, budget).seen()), wanted)
+
+
+class Checkers(unittest.TestCase):
+    def pairs(self):
+        """Two codes and a paper that is let by just where a reason is allowed, and this reason."""
+        taken = {"main": ({0: 0}, {0: n(0), 1: n(0)})}
+        plain = single([Row(1, "add", None, [n(0), num(0)])], Back(n(1)), [NUM])
         row = Row(1, "neg", None, [n(0)])
         here = Code({"main": made([NUM], NUM, Block([0], [row], Jump((1, ()))), Block([], [], Back(n(1))))})
         there = Code({"main": made([NUM], NUM, Block([0], [], Jump((1, ()))), Block([], [row], Back(n(1))))})
@@ -139,22 +246,50 @@ class FoldAsOne(unittest.TestCase):
                                     Block([], [], Back(n(0))))})
         jump = Code({"main": made([NUM], NUM, Block([0], [], Jump((1, ()))), Block([], [], Back(n(0))))})
         handed = Code({"main": made([NUM], NUM, Block([0], [], Jump((1, (n(0),)))), Block([1], [], Back(n(1))))})
-        for ahead, behind, paper in [
-            copied, (here, there, same_paper(here)), (branch, jump, same_paper(branch)),
-            (handed, jump, {"main": ({0: 0, 1: 1}, {0: n(0), 1: n(0)})}),
-        ]:
-            self.assertTrue(Walk(REASONS).lets_by(ahead, behind, paper))
-            self.assertFalse(Fold().holds(ahead, behind, paper))
+        return [
+            (COPIED, single([], Back(n(0)), [NUM]), taken, "copy"), (here, there, same_paper(here), "moved"),
+            (plain, single([], Back(n(0)), [NUM]), taken, "plain"), (branch, jump, same_paper(branch), "known"),
+            (FOLDED, single([], Back(num(3)), [NUM]), {"main": ({0: 0}, {0: n(0), 1: num(3)})}, "fold"),
+            (handed, jump, {"main": ({0: 0, 1: 1}, {0: n(0), 1: n(0)})}, "param"),
+        ]
 
-    def test_other_things_amiss(self):
-        behind, paper = Fold().tried(FOLDED)
-        self.assertTrue(Fold().holds(FOLDED, behind, paper))
-        self.assertFalse(Fold().holds(behind, FOLDED, paper))
-        self.assertFalse(Fold().holds(FOLDED, FOLDED, paper))
-        self.assertFalse(Fold().holds(FOLDED, behind, same_paper(FOLDED)))
-        self.assertFalse(Fold().holds(FOLDED, single([], Back(num(4)), [NUM]), paper))
-        self.assertFalse(Fold().holds(FOLDED, behind, {**paper, "f": paper["main"]}))
-        self.assertFalse(Fold().holds(FOLDED, single([], Back(YES), [NUM], TRUTH), paper))
+    def test_each_reason(self):
+        for ahead, behind, paper, reason in self.pairs():
+            self.assertTrue(Walk(REASONS).lets_by(ahead, behind, paper))
+            for made_of_nothing, title, reasons, code in Rewritings.ALL:
+                self.assertIs(made_of_nothing().holds(ahead, behind, paper), reason in reasons, (title, reason))
+
+    def test_papers_amiss(self):
+        for made_of_nothing, title, reasons, code in Rewritings.ALL:
+            behind, paper = made_of_nothing().tried(code)
+            partners, images = paper["main"]
+            self.assertTrue(made_of_nothing().holds(code, behind, paper))
+            for amiss in [
+                {}, {**paper, "f": paper["main"]}, {"f": paper["main"]}, {"main": [partners, images]},
+                {"main": (partners,)}, {"main": (partners, images, {})}, {"main": (images, partners)},
+                {"main": ({}, images)}, {"main": (partners, {})}, {"main": ({**partners, 0: False}, images)},
+                {"main": (partners, {**images, 0: num(0)})}, {"main": (partners, {**images, 77: n(0)})},
+                {"main": ({**partners, 7: 7}, images)}, [paper], None,
+            ]:
+                self.assertIs(made_of_nothing().holds(code, behind, amiss), False, (title, amiss))
+
+    def test_codes_amiss(self):
+        for made_of_nothing, title, reasons, code in Rewritings.ALL:
+            behind, paper = made_of_nothing().tried(code)
+            other = single([], Back(YES), [NUM], TRUTH)
+            unfit = single([], Back(n(7)), [NUM])
+            more = behind.with_function("f", STAYING.functions["main"])
+            for one, two in [(code, other), (other, behind), (code, unfit), (unfit, behind), (code, more),
+                             (code, STAYING), (STAYING, behind), (code, single([], Raise("oops"), [NUM]))]:
+                self.assertIs(made_of_nothing().holds(one, two, paper), False, title)
+
+    def test_turned_about(self):
+        # Rows more are let by behind; so what is unused holds both ways, by the paper of what is there both times.
+        for made_of_nothing, title, reasons, code in Rewritings.ALL:
+            behind, paper = made_of_nothing().tried(code)
+            self.assertIs(made_of_nothing().holds(behind, code, paper), title == "unused")
+            self.assertIs(made_of_nothing().holds(code, code, paper), title == "unused")
+            self.assertIs(made_of_nothing().holds(code, behind, same_paper(code)), False)
 
 
 if __name__ == "__main__":
