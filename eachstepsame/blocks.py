@@ -140,6 +140,10 @@ class Risk(End):
         return list(self.asked)
 
 
+def is_call(end):
+    return isinstance(end, Risk) and end.op == "call"
+
+
 class Block:
     def __init__(self, params, rows, end):
         self.params = tuple(params)

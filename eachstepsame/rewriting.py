@@ -1,7 +1,8 @@
 """What all rewritings share, and the paper by which a code is its own behind."""
 
-from eachstepsame.blocks import Block, Code
-from eachstepsame.fits import given_in
+from eachstepsame.blocks import Block, Code, Jump, Row
+from eachstepsame.fits import closed_up, given_in, is_fit
+from eachstepsame.kinds import is_whole
 from eachstepsame.walk import Walk
 
 
@@ -13,6 +14,11 @@ def same_paper(code):
 def same_sheet(function):
     partners = dict([(number, number) for number in range(len(function.blocks))])
     return (partners, dict([(name, ("name", name)) for name in given_in(function)]))
+
+
+# A function that stays, made anew: so the form behind shares no dict with the one ahead.
+def anew(function):
+    return function.with_blocks(function.blocks)
 
 
 # Of each param to which edges lead all that they hand to it; None stands for a result.
@@ -53,6 +59,24 @@ def put_instead(function, operands):
     return (without(function, operands, operands), sheet)
 
 
+# The next numbers, so many, that are no names of the function.
+def next_names(function, count):
+    begin = max(function.kept_kinds, default=-1) + 1
+    return list(range(begin, begin + count))
+
+
+# Whether these things, of whatever sorts, are numbers that may be given as names beside those of the function.
+def are_new_names(things, function):
+    if not all([is_whole(thing) and thing >= 0 and thing not in function.kept_kinds for thing in things]):
+        return False
+    return len(set(things)) == len(things)
+
+
+# The block of a call, with its tick and a jump in the place of the call.
+def jumping(block, edge):
+    return Block(block.params, block.rows + (Row(None, "tick", None, ()),), Jump(edge))
+
+
 # One that stands under it tells its title, the reasons of its checker, and of a function what comes of it: a tuple
 # (function, sheet), or None where nothing changes.
 class Rewriting:
@@ -64,8 +88,7 @@ class Rewriting:
             function = code.function_named(name)
             made = self.rewritten(function)
             if made is None:
-                # Made anew, so that the form behind shares no dict with the one ahead.
-                made = (function.with_blocks(function.blocks), same_sheet(function))
+                made = (anew(function), same_sheet(function))
             else:
                 changes = True
             functions[name] = made[0]
@@ -74,3 +97,22 @@ class Rewriting:
 
     def holds(self, ahead, behind, paper):
         return Walk(self.needed_reasons()).lets_by(ahead, behind, paper)
+
+
+# A rewriting of frames, whose checker does by the paper what was done. One that stands under it tells its title, the
+# paper by which it changes a code, or None, whether a thing is a paper for a code, and the function that comes by a
+# paper, the name of which is the paper's first part.
+class Reframing(Rewriting):
+    def tried(self, code):
+        paper = self.first_paper(code)
+        return None if paper is None else (self.built(code, paper), paper)
+
+    def holds(self, ahead, behind, paper):
+        if not is_fit(ahead) or not is_fit(behind) or not self.is_paper(ahead, paper):
+            return False
+        return self.built(ahead, paper).told() == behind.told()
+
+    def built(self, code, paper):
+        functions = dict([(name, anew(code.function_named(name))) for name in code.names()])
+        functions[paper[0]] = closed_up(self.reframed(code, paper))[0]
+        return Code(functions)

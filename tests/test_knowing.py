@@ -8,8 +8,7 @@ from eachstepsame.knowing import Known
 from eachstepsame.ops import reckoned
 from eachstepsame.walk import REASONS
 from tests.helper import (
-    NO, NUM, TICK, TRUTH, WIDE, YES, Tried, made, n, noted, num, put_end, sample_code, shown, shown_sheet, single,
-    told_edges,
+    NO, NUM, TICK, TRUTH, WIDE, YES, Tried, made, n, noted, num, sample_code, settled, shown, shut, single,
 )
 
 GREAT = num(10 ** 30)
@@ -34,18 +33,8 @@ def ended(told):
     blocks = [block[:2] + (known(block[2]),) for block in told[3]]
     if blocks == list(told[3]):
         return None
-    left = {0}
-    while True:
-        more = {edge[0] for edge, handed in told_edges([blocks[number] for number in left])}
-        if more <= left:
-            break
-        left |= more
-    numbers = {number: place for place, number in enumerate(sorted(left))}
-    blocks = tuple(blocks[number][:2] + (put_end(blocks[number][2], lambda edge, handed: (numbers[edge[0]], edge[1]),
-                                                 lambda operand: operand),) for number in numbers)
-    given = {name for params, rows, end in blocks for name in list(params) + [row[0] for row in rows]}
-    kinds = tuple((name, kind) for name, kind in told[2] if name in given)
-    return told[:2] + (kinds, blocks), (numbers, {name: n(name) for name, kind in kinds})
+    behind, numbers = shut(told[:3] + (tuple(blocks),))
+    return behind, (numbers, {name: n(name) for name, kind in behind[2]})
 
 
 class Ends(Tried):
@@ -200,7 +189,7 @@ class ClosedUp(Ends):
         self.becomes(ahead, behind)
         paper = Known().tried(ahead)[1]
         names = {name: n(name) for name in [0, 10, 13, 14, 15]}
-        self.assertEqual(shown_sheet(paper["main"]), shown_sheet(({0: 0, 3: 1, 4: 2, 5: 3}, names)))
+        self.assertEqual(settled(paper["main"]), settled(({0: 0, 3: 1, 4: 2, 5: 3}, names)))
         self.assertEqual(behind.functions["main"].kinds, {0: NUM, 10: NUM, 13: NUM, 14: TRUTH, 15: NUM})
 
     def test_known_ends_that_nobody_comes_to(self):
