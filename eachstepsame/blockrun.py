@@ -1,21 +1,17 @@
 """The runner of blocks: a code is run, with a pile of its own for calls."""
 
 from eachstepsame.blocks import Back, Branch, Jump, Raise, Risk
-from eachstepsame.errors import Fault
 from eachstepsame.ops import reckoned
-from eachstepsame.runs import Going, need_start
+from eachstepsame.piles import Pile
+from eachstepsame.runs import need_start
 
 
 def run_blocks(code, inputs, budget):
     need_start(code.function_named("main").takes, inputs, budget)
-    runner = BlockRunner(code, budget)
-    runner.begin("main", inputs)
-    while runner.ending is None:
-        runner.go_on()
-    return runner.ended()
+    return BlockRunner(code, budget).run_from_main(inputs)
 
 
-# A call that has begun and not ended: its names' values, and the block at which it is.
+# A call that has begun and not ended: its names' values, and the rows and the end of the block at which it is.
 class Stay:
     def __init__(self, function, given):
         self.function = function
@@ -23,12 +19,25 @@ class Stay:
         self.come_to(0, given)
 
     def come_to(self, number, given):
-        self.block = self.function.blocks[number]
-        for name, value in zip(self.block.params, given):
+        block = self.function.blocks[number]
+        self.rows = block.rows
+        self.end = block.end
+        for name, value in zip(block.params, given):
             self.have[name] = value
 
     def go_along(self, edge, results):
         self.come_to(edge[0], results + self.values_of(edge[1]))
+
+    def go_well(self, value):
+        self.go_along(self.end.edge, [value])
+
+    def goes_on_at(self, fault):
+        if isinstance(self.end, Risk):
+            for caught, edge in self.end.catches:
+                if caught == fault:
+                    self.go_along(edge, [])
+                    return True
+        return False
 
     def value_of(self, operand):
         return self.have[operand[1]] if operand[0] == "name" else operand[1]
@@ -37,25 +46,13 @@ class Stay:
         return [self.value_of(operand) for operand in operands]
 
 
-class BlockRunner(Going):
+class BlockRunner(Pile):
     def __init__(self, code, budget):
-        Going.__init__(self, budget)
+        Pile.__init__(self, budget)
         self.code = code
-        self.frames = []
 
     def begin(self, name, given):
         self.frames.append(Stay(self.code.function_named(name), given))
-
-    # One block: its rows, then its end.
-    def go_on(self):
-        stay = self.frames[-1]
-        for row in stay.block.rows:
-            self.steps += 1
-            self.do_row(stay, row)
-            if self.ending is not None:
-                return
-        self.steps += 1
-        self.do_end(stay, stay.block.end)
 
     def do_row(self, stay, row):
         if row.op == "tick":
@@ -77,43 +74,4 @@ class BlockRunner(Going):
         elif end.op == "call":
             self.enter(end.extra, stay.values_of(end.asked))
         else:
-            self.risk(stay, end)
-
-    def enter(self, name, given):
-        if self.takes_tick():
-            self.begin(name, given)
-
-    def risk(self, stay, end):
-        try:
-            value = reckoned(end.op, end.extra, stay.values_of(end.asked))
-        except Fault as fault:
-            self.fault_comes(fault.name)
-        else:
-            stay.go_along(end.edge, [value])
-
-    def leave(self, value):
-        self.frames.pop()
-        if len(self.frames) == 0:
-            self.answer(value)
-        else:
-            stay = self.frames[-1]
-            stay.go_along(stay.block.end.edge, [value])
-
-    # A function that doesn't catch the fault at the end where it is, is left; then it comes at the call beneath.
-    def fault_comes(self, name):
-        while len(self.frames) > 0:
-            stay = self.frames[-1]
-            edge = edge_of_catch(stay.block.end, name)
-            if edge is not None:
-                stay.go_along(edge, [])
-                return
-            self.frames.pop()
-        self.fail(name)
-
-
-def edge_of_catch(end, fault):
-    if isinstance(end, Risk):
-        for caught, edge in end.catches:
-            if caught == fault:
-                return edge
-    return None
+            self.risk(stay, end.op, end.extra, stay.values_of(end.asked))

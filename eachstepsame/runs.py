@@ -51,10 +51,18 @@ class Going:
 
 
 def need_start(kinds, inputs, budget):
-    if not isinstance(inputs, list) or len(inputs) != len(kinds):
-        raise NoInput(None)
+    need_so_many(len(kinds), inputs)
     for place, kind in enumerate(kinds):
         if not is_value(inputs[place], kind):
             raise NoInput(place)
+    need_budget(budget)
+
+
+def need_so_many(count, inputs):
+    if not isinstance(inputs, list) or len(inputs) != count:
+        raise NoInput(None)
+
+
+def need_budget(budget):
     if not is_whole(budget) or not 0 <= budget <= 10000:
         raise NoBudget()

@@ -501,6 +501,131 @@ class BlockOracle:
             number, given = edge[0], ahead + [of(arg) for arg in edge[1]]
 
 
+class MachineOracle(BlockOracle):
+    """Runs what a machine tells. A place that was not written, or a register since the last call, is not there."""
+
+    def function(self, text, given):
+        takes, frame, blocks = self.functions[text]
+        if len(given) != takes or frame < takes:
+            raise AssertionError((text, given))
+        there = {("frame", place): value for place, value in enumerate(given)}
+        number = 0
+
+        def of(source):
+            return there[source] if source[0] in ("reg", "frame") else source[1]
+
+        while True:
+            rows, end = blocks[number]
+            for word, *rest in rows:
+                self.steps += 1
+                if word == "tick" and not self.tick():
+                    yield "dry"
+                if word == "log":
+                    self.log.append(self.outward(of(rest[0])))
+                if word == "move":
+                    there[rest[0]] = of(rest[1])
+                if word == "op":
+                    there[rest[0]] = reckoned(rest[1], rest[2], [of(source) for source in rest[3]])
+            self.steps += 1
+            if end[0] in ("back", "raise"):
+                return ("answer", of(end[1])) if end[0] == "back" else ("fault", end[1])
+            if end[0] in ("jump", "branch"):
+                number = end[1] if end[0] == "jump" else end[2] if of(end[1]) else end[3]
+                continue
+            word, op, extra, sources, place, number, catches = end
+            if op == "call":
+                if not self.tick():
+                    yield "dry"
+                result = yield (extra, [of(source) for source in sources])
+                there = {place: value for place, value in there.items() if place[0] == "frame"}
+            else:
+                try:
+                    result = ("answer", reckoned(op, extra, [of(source) for source in sources]))
+                except Fault as fault:
+                    result = ("fault", fault.name)
+            if result[0] == "answer":
+                there[place] = result[1]
+            elif result[1] in dict(catches):
+                number = dict(catches)[result[1]]
+            else:
+                return result
+
+
+def moments(function):
+    """For each moment, a tuple of a block and how many of its rows are done, the names that are needed then.
+
+    A second reading: name by name one goes back from where it is read, until no more params are needed.
+    """
+    blocks = function.told()[3]
+    needed = {(number, place): set() for number, block in enumerate(blocks) for place in range(len(block[1]) + 1)}
+    leading = [(number, edge, handed) for number, block in enumerate(blocks)
+               for edge, handed in told_edges([block])]
+
+    def reads(number, place):
+        rows, end = blocks[number][1:]
+        if place < len(rows):
+            return rows[place][3]
+        own = {"branch": end[1:2], "back": end[1:2], "risk": end[3] if end[0] == "risk" else ()}.get(end[0], ())
+        return tuple(own) + tuple(arg for arg in wanted_args(blocks, needed, number))
+
+    while True:
+        kept = sum(len(names) for names in needed.values())
+        for moment in needed:
+            for word, text in reads(*moment):
+                if word == "name":
+                    back_from(text, moment, blocks, needed, leading)
+        if kept == sum(len(names) for names in needed.values()):
+            return needed
+
+
+def wanted_args(blocks, needed, number):
+    """The args of a block's edges whose params are needed when the edge's block begins."""
+    found = []
+    for (to, args), handed in told_edges([blocks[number]]):
+        found += [arg for param, arg in zip(blocks[to][0][handed:], args) if param in needed[(to, 0)]]
+    return found
+
+
+def back_from(text, moment, blocks, needed, leading):
+    waiting = [moment]
+    while waiting:
+        number, place = moment = waiting.pop()
+        if text in needed[moment]:
+            continue
+        needed[moment].add(text)
+        if place > 0:
+            if blocks[number][1][place - 1][0] != text:
+                waiting.append((number, place - 1))
+        elif text not in blocks[number][0]:
+            waiting += [(one, len(blocks[one][1])) for one, edge, handed in leading if edge[0] == number]
+
+
+def over_calls(function):
+    """The names that are needed over some call."""
+    blocks, needed, found = function.told()[3], moments(function), set()
+    for number, block in enumerate(blocks):
+        if block[2][:2] == ("risk", "call"):
+            found.update(arg[1] for arg in wanted_args(blocks, needed, number) if arg[0] == "name")
+            for (to, args), handed in told_edges([block]):
+                found |= needed[(to, 0)] - set(blocks[to][0])
+    return found
+
+
+def wanted_homes(function, k):
+    """The homes of names, by a second reading."""
+    sets, calls, found = list(moments(function).values()), over_calls(function), {}
+    for place, name in enumerate(function.blocks[0].params):
+        found[name] = ("frame", place)
+    for name in [name for block in function.blocks for name in block.given()]:
+        if name in found or not any(name in names for names in sets):
+            continue
+        taken = {found[other] for names in sets if name in names for other in names if other in found}
+        some = [("reg", number) for number in range(k - 1)] * (name not in calls)
+        some += [("frame", number) for number in range(len(found) + len(function.takes) + 1)]
+        found[name] = next(place for place in some if place not in taken)
+    return found
+
+
 def changed(function, number=0, **parts):
     """The function with some parts of one block, or the kinds, the takes or what it gives, put otherwise."""
     block = function.blocks[number]
