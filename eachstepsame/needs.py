@@ -11,9 +11,13 @@ class Needs:
     def __init__(self, function):
         self.function = function
         self.in_order = []
+        self.bits = {}
+        bit = 1
         for block in function.blocks:
-            self.in_order.extend(block.given())
-        self.bits = dict([(name, 1 << place) for place, name in enumerate(self.in_order)])
+            for name in block.given():
+                self.in_order.append(name)
+                self.bits[name] = bit
+                bit += bit
         self.at_begin = [0 for block in function.blocks]
         # Of each block the places of its params that are needed, and the names that are needed and none of its params.
         self.needed_params = [[] for block in function.blocks]

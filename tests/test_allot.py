@@ -284,7 +284,7 @@ class Homes(unittest.TestCase):
 
     def test_more_names_than_registers(self):
         for k in range(2, 9):
-            for count in [1, k - 2, k - 1, k, 12]:
+            for count in [1, max(1, k - 2), k - 1, k, 12]:
                 wanted = {0: frame(0), 1: frame(1)}
                 # The last one is given when the second take isn't needed any more; the first one never is.
                 free = [reg(number) for number in range(k - 1)] + [frame(0)] + [frame(2 + place) for place in range(12)]
@@ -292,7 +292,7 @@ class Homes(unittest.TestCase):
                     wanted[2 + place] = free[place]
                 if k - 1 < count - 1:
                     wanted[1 + count] = frame(1)
-                self.housed(crowded(count), k, wanted) if count > 0 else None
+                self.housed(crowded(count), k, wanted)
 
     def test_names_without_a_home(self):
         code = single([neg(1, n(0)), neg(2, n(1)), neg(3, n(0))], Back(n(3)), [NUM])
@@ -400,6 +400,11 @@ class Allotted(unittest.TestCase):
         # The last register is spare, and nothing is to be moved here.
         self.assertTrue(holds(crowded(30), machine, table, 3))
         self.assertFalse(holds(crowded(30), machine, table, 2))
+
+    def test_further_blocks_only_where_something_is_to_be_moved(self):
+        # Into the loop and round it; 5 comes to the home of 1 at once.
+        self.assertEqual([len(rows) for rows, end in allotted(looped(), 3)[0].functions["main"][2][4:]], [2])
+        self.assertEqual(len(allotted(turned(), 3)[0].functions["main"][2]), 3)
 
     def test_rings_along_edges(self):
         # Params that change their places in each round: a ring of two, a ring of three, and one that stays.

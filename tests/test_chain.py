@@ -3,6 +3,7 @@
 import copy
 import unittest
 from random import Random
+from unittest.mock import patch
 
 from eachstepsame.allot import allotted
 from eachstepsame.blockrun import run_blocks
@@ -238,7 +239,8 @@ class RunsRefused(unittest.TestCase):
         return told
 
     def test_words(self):
-        for thing in things() + ["Source", "forms", "tree", "code_ahead", " source", "sources", WORDS, tuple(WORDS), 0, 3]:
+        more = ["Source", "forms", "tree", "code_ahead", " source", "sources", WORDS, tuple(WORDS), 0, 3]
+        for thing in things() + more:
             for inputs, budget in [(self.GOOD, 5), (None, 5), (self.GOOD, -1), ([], None)]:
                 self.assertEqual(shown(self.asked(thing, inputs, budget)), shown(("NoPass", thing)))
         for word in WORDS:
@@ -306,6 +308,8 @@ class Kept(Forming):
         kept = self.all_of(forms)
         forms.widths().clear()
         forms.run("machine", GREAT_INPUTS[0], 9).log.clear()
+        forms.chained.pop()
+        self.assertEqual(self.all_of(forms), kept)
         for title, form, paper in forms.chained:
             form.functions.clear()
             if isinstance(paper, dict):
@@ -317,6 +321,7 @@ class Kept(Forming):
                 for part in paper:
                     if isinstance(part, (dict, list)):
                         part.clear()
+        self.assertEqual(self.all_of(forms), kept)
         forms.chained.clear()
         for claims in forms.table.values():
             for claim in claims:
@@ -328,6 +333,19 @@ class Kept(Forming):
         forms.code_ahead.functions.clear()
         forms.code_behind.functions.clear()
         self.assertEqual(self.all_of(forms), kept)
+
+    def test_held_asks_both_checkers(self):
+        # Both always let by what is made here, so one that does not is put in their place.
+        forms = Forms(GREAT, TITLES, 3)
+        self.assertIs(forms.held(), True)
+        with patch("eachstepsame.chain.holds", return_value=False) as asked:
+            self.assertIs(forms.held(), False)
+        asked.assert_called_with(forms.code_behind, forms.machine, forms.table, 3)
+        for number in [0, 1, 7]:
+            with patch("eachstepsame.chain.first_amiss", return_value=number) as asked:
+                self.assertIs(forms.held(), False)
+        self.assertEqual(shown(asked.call_args[0][0].told()), shown(forms.code_ahead.told()))
+        self.assertEqual([step[:2] for step in asked.call_args[0][1]], [step[:2] for step in forms.chained])
 
     def test_two_of_one_program(self):
         one_of, other = Forms(GREAT, TITLES, 3), Forms(GREAT, TITLES, 3)
@@ -387,7 +405,8 @@ class Whole(Forming):
             calls = [trying(calls, *[(letters[level * 8 + place], [log(num(place))]) for place in range(8)])]
         loops = [let("x", num(0))]
         for place in range(120):
-            loops.append(loop(two("<", name("x"), two("+", name("n"), num(place))), put("x", two("+", name("x"), num(1)))))
+            test = two("<", name("x"), two("+", name("n"), num(place)))
+            loops.append(loop(test, put("x", two("+", name("x"), num(1)))))
         for rows in [many, calls, loops]:
             program = ((), (truth, fun("main", [("n", NUM)], NUM, *rows)))
             self.assertGreater(len(nodes(program)), 1100)

@@ -15,7 +15,7 @@ from eachstepsame.runs import Run
 from eachstepsame.table import holds
 from tests.helper import (
     FLAG, NO, NUM, TICK, TRUTH, YES, Drawer, MachineOracle, Sower, add, made, n, neg, noted, num, refusal, sample_code,
-    shown, single, sown_code, things,
+    shown, sown_code, things,
 )
 
 R0, R1, R2 = [("reg", number) for number in range(3)]
@@ -100,8 +100,8 @@ class Rows(Runs):
             self.one((), ("back", ("frame", place)), ("answer", num(place + 10), [], 0, 1), [10, 11, 12, 13])
 
     def test_ops(self):
-        rows = (("op", R0, "add", None, (F0, num(5))), ("op", R1, "sub", None, (R0, F1)), ("op", F2, "neg", None, (R1,)),
-                ("op", F3, "less", None, (F2, num(0))), ("log", R0), ("log", R1), ("log", F2), ("log", F3),
+        rows = (("op", R0, "add", None, (F0, num(5))), ("op", R1, "sub", None, (R0, F1)),
+                ("op", F2, "neg", None, (R1,)), ("op", F3, "less", None, (F2, num(0))), ("log", R0), ("log", R1), ("log", F2), ("log", F3),
                 ("op", R0, "make", FLAG, (F3, F2)), ("op", R1, "get", 1, (R0,)), ("op", R2, "put", 0, (R0, NO)))
         self.one(rows, ("back", R2), ("answer", (NO, num(-5)), [7, 5, -5, True], 0, 12), [2, 2])
 
@@ -175,7 +175,8 @@ class Ends(Runs):
         ]:
             for catches, wanted in [
                 ((), ("fault", fault, [], 0, 1)), ((("oops", 2),), ("fault", fault, [], 0, 1)),
-                (((fault, 2),), ("answer", num(5), [], 0, 2)), ((("oops", 1), (fault, 2)), ("answer", num(5), [], 0, 2)),
+                (((fault, 2),), ("answer", num(5), [], 0, 2)),
+                ((("oops", 1), (fault, 2)), ("answer", num(5), [], 0, 2)),
                 (((fault, 3), ("oops", 2)), ("fault", "no", [], 0, 2)),
             ]:
                 # Where it faults nothing is put into its place.

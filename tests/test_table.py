@@ -788,7 +788,8 @@ class Frames(Looked):
     def test_parts_of_a_function(self):
         functions = small_machine()
         for text, function in functions.items():
-            for other in [function[:2], function + (None,), (), function[1:], list(function[:2]), dict(enumerate(function))]:
+            for other in [function[:2], function + (None,), (), function[1:], list(function[:2]),
+                          dict(enumerate(function))]:
                 self.bad(functions={**functions, text: other})
             self.good(functions={**functions, text: list(function)})
 
@@ -974,8 +975,8 @@ def looped_rows():
     """A code of rows of one number, and numbers of parts."""
     wide = ("row", 1)
     return Code({MAIN: made([wide], NUM, Block([0], [Row(1, "make", ("row", 1), [num(1)])], Jump((1, (n(0), n(1))))),
-                            Block([2, 3], [TICK, Row(4, "get", 0, [n(2)]), Row(5, "put", 0, [n(3), num(1)]), noted(n(4))],
-                                  Branch(YES, (1, (n(5), n(2))), (2, ()))),
+                            Block([2, 3], [TICK, Row(4, "get", 0, [n(2)]), Row(5, "put", 0, [n(3), num(1)]),
+                                           noted(n(4))], Branch(YES, (1, (n(5), n(2))), (2, ()))),
                             Block([], [], Risk("pick", None, [n(2), num(1)], (3, ()), [])),
                             Block([6], [], Back(n(6))), n0=wide, n1=wide, n2=wide, n3=wide, n5=wide)})
 
